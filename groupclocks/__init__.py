@@ -1,0 +1,1 @@
+"""Counters that tell what was before what, for systems with any number of like participants."""

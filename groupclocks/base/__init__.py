@@ -1,0 +1,1 @@
+"""Words and systems, on which all else is built."""
