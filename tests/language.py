@@ -278,3 +278,26 @@ def own_attributes(texts):
             if isinstance(part, ast.Attribute) and isinstance(part.ctx, ast.Store):
                 found.add(part.attr)
     return found
+
+
+def check_names(texts):
+    """L5, L18 and L23 for the whole package: names that mean several things."""
+    properties, methods, attributes, generators, functions = set(), set(), set(), [], []
+    for text in texts:
+        tree = ast.parse(text)
+        for part in ast.walk(tree):
+            if isinstance(part, ast.ClassDef):
+                for inner in part.body:
+                    if isinstance(inner, ast.FunctionDef):
+                        is_property = any(ast.unparse(one) == "property" for one in inner.decorator_list)
+                        (properties if is_property else methods).add(inner.name)
+            if isinstance(part, ast.FunctionDef):
+                functions.append(part.name)
+                if any(isinstance(inner, (ast.Yield, ast.YieldFrom)) for inner in ast.walk(part)):
+                    generators.append(part.name)
+            if isinstance(part, ast.Attribute) and isinstance(part.ctx, ast.Store):
+                attributes.add(part.attr)
+    found = [f"L5 {name} is a property and a method" for name in properties & methods]
+    found += [f"L18 {name} is an attribute and a method or property" for name in attributes & (properties | methods)]
+    found += [f"L23 {name} is a generator and something else" for name in generators if functions.count(name) > 1]
+    return sorted(found)

@@ -4,6 +4,8 @@ import re
 
 from groupclocks import errors
 from groupclocks.base.systems import Action, System
+from groupclocks.cover.reach import Reach
+from groupclocks.runs.runs import Run
 
 SERVE_LINES = (
     "agent server idle busy",
@@ -16,6 +18,11 @@ SERVE = System.from_lines("agent server idle busy", "pool client out in", "actio
 LOCK = System.from_lines("agent lock free taken", "pool client out in", "action take client out in, lock free taken", "action work client in in", "action give client in out, lock taken free")
 MAIL = System.from_lines("agent p at", "agent q at", "pool letter blank sent used", "action send letter blank sent, p at at", "action get letter sent used, q at at")
 
+# Systems with what the document's own do not have: equal sources and equal moves, no pools, no agents, several pools.
+TWINS = System.from_lines("pool x a b", "action both x a b, x a b", "action swap x a b, x b a", "action three x a a, x a a, x b b")
+ALONE = System.from_lines("agent p s t", "agent q s t", "action both p t s, q t t", "action left p s t", "action right q s t")
+MIXED = System.from_lines("agent p s t", "pool x a b c", "pool y d", "action join p s t, x a b, x a b, y d d", "action part p t s, x b a", "action rest y d d", "action turn x b c")
+
 DEEP = ((((((((1,),),),),),),),)
 
 # Of every kind that the document names for invalid arguments; none of them is a name or a tuple.
@@ -23,7 +30,7 @@ NO_TUPLES = (
     None, True, False, 0, 1, -1, 10 ** 59, 10 ** 99, -10 ** 99, "", " ", "Ask", "a1", "a  b", "a-b", "\n", "ask\n",
     "abcdefghi", "x" * 9000, [], [1], ["ask"], [("client", "out", "in")], [[[[[[[[1]]]]]]]], {}, {"ask": "a"},
     {1: 2}, {None: []}, {(1, 2): {}}, {"server": ("idle",)}, Action("ask", (("client", "out", "in"),)), SERVE,
-    errors.InvalidName("wrong"), errors.ParseError(None),
+    errors.InvalidName("wrong"), errors.ParseError(None), Run(SERVE, (1,)), Reach(LOCK, ((), ())),
 )
 TUPLES = (
     (), (1,), (None,), (True,), ("Ask",), ("",), ("a", 1), ("a", ["b"]), ([],), ({},), ("a", "b", "c"), DEEP,
@@ -84,3 +91,32 @@ def check_examples(case, text, known):
                 eval(line[4:], known)
         else:
             case.assertEqual(repr(eval(line[4:], known)), following)
+
+
+def check_error(case, kind, keeps, call, *rest, **more):
+    """Check that a call raises an error of just this kind, which keeps these values, told by their names."""
+    with case.assertRaises(kind, msg=(rest, more)) as caught:
+        call(*rest, **more)
+    case.assertIs(type(caught.exception), kind, (rest, more))
+    for name, value in keeps.items():
+        case.assertTrue(is_like(getattr(caught.exception, name), value), (name, value, rest, more))
+
+
+def check_late_error(case, kind, keeps, call, *rest):
+    """Check that the call of a generator raises such an error, but not before its first result is requested."""
+    results = call(*rest)
+    check_error(case, kind, keeps, next, results)
+
+
+def check_not_iterable(case, value):
+    """Check that iterating over an object raises TypeError in each way."""
+    for walk in (iter, list, tuple, sorted, set, dict, enumerate, lambda one: [*one], max):
+        with case.assertRaises(TypeError):
+            walk(value)
+
+
+def check_fixed(case, value, *names):
+    """Check that these properties of an object cannot be assigned."""
+    for name in names:
+        with case.assertRaises(AttributeError):
+            setattr(value, name, ())

@@ -12,6 +12,25 @@ FUNCTIONS = {
         "read_names": "(text)",
     },
     "groupclocks.base.systems": {"renamed_system": "(system, owners, actions)"},
+    "groupclocks.runs.runs": {"is_event": "(system, value)", "is_numbers": "(system, value)"},
+    "groupclocks.cover.patterns": {
+        "is_pattern": "(system, value)", "is_target": "(system, value)", "is_below": "(system, pattern, value)",
+        "does_match": "(run, pattern)", "start_row": "(system, pattern)", "needs_of": "(system, name)",
+        "needs_of_both": "(system, one, other)", "pattern_ahead": "(system, name, pattern)",
+        "least_patterns": "(system, patterns)",
+    },
+    "groupclocks.cover.reach": {
+        "is_closed": "(system, target, value)", "is_certificate": "(system, target, value)",
+    },
+}
+CONSTANTS = {
+    "groupclocks.base.words": {"MAX_LETTERS": 8, "MAX_NAMES": 16},
+    "groupclocks.base.systems": {
+        "MAX_AGENTS": 5, "MAX_POOLS": 3, "MAX_STATES": 6, "MAX_ACTIONS": 16, "MAX_MOVES": 4, "MAX_SHARED": 3,
+    },
+    "groupclocks.runs.runs": {"MAX_MEMBERS": 2000, "MAX_EVENTS": 2000},
+    "groupclocks.cover.patterns": {"MAX_TARGET": 40},
+    "groupclocks.cover.reach": {"MAX_ROUND": 400, "MAX_CLOSED": 2000},
 }
 ERRORS = {
     "ClockError": None, "InvalidName": None, "InvalidAction": None, "InvalidSystem": None, "InvalidRun": None,
@@ -33,6 +52,24 @@ CLASSES = {
              "without": "(self, names)", "__or__": None, "__and__": None},
         ),
     },
+    "groupclocks.runs.runs": {
+        "Run": (
+            "(system, numbers, events=())", ("system", "numbers", "events", "finals"),
+            {"__getitem__": "(self, index)", "__len__": "(self)", "__eq__": None, "__str__": "(self)",
+             "participants": "(self, index)", "past": "(self, index)", "is_before": "(self, one, other)",
+             "is_concurrent": "(self, one, other)", "each_possible": "(self)", "__add__": "(self, event)",
+             "part": "(self, indices)", "widened": "(self, numbers)", "each_order": "(self)",
+             "is_same": "(self, value)"},
+        ),
+    },
+    "groupclocks.cover.reach": {
+        "Reach": (
+            "(system, target)",
+            ("system", "target", "rounds", "closed", "rows", "fewest", "steps", "is_reachable"),
+            {"run": "(self, *, numbers=None)", "certificate": "(self)", "__contains__": None, "__len__": "(self)",
+             "__eq__": None, "__str__": "(self)"},
+        ),
+    },
 }
 
 
@@ -44,6 +81,12 @@ class InterfaceTest(unittest.TestCase):
             for name, parameters in functions.items():
                 self.assertIn(name, defined)
                 self.assertEqual(str(inspect.signature(getattr(module, name))), parameters, name)
+
+    def test_constants(self):
+        for path, constants in CONSTANTS.items():
+            module = importlib.import_module(path)
+            for name, value in constants.items():
+                self.assertEqual(getattr(module, name), value, name)
 
     def test_classes(self):
         for path, classes in CLASSES.items():

@@ -47,6 +47,16 @@ class LanguageTest(unittest.TestCase):
         for name, text in self.texts.items():
             self.assertEqual(language.check_source(text, known), [], name)
 
+    def test_names(self):
+        self.assertEqual(language.check_names(self.texts.values()), [])
+
+    def test_the_check_finds_names_that_mean_several_things(self):
+        texts = (
+            "class A:\n    @property\n    def a(self):\n        return 1\n", "class B:\n    def a(self):\n        return 1\n",
+            "class C:\n    def __init__(self):\n        self.a = 1\n", "def g():\n    yield 1\n", "class D:\n    def g(self):\n        return 1\n",
+        )
+        self.assertEqual(len(language.check_names(texts)), 3)
+
     def test_the_check_finds_what_is_broken(self):
         for rule, text in BROKEN:
             found = language.check_source(text)

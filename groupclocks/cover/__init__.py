@@ -1,0 +1,1 @@
+"""Patterns, and what is reachable."""

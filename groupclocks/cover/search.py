@@ -1,0 +1,103 @@
+"""The search for what leads to targets, backwards in rounds, and runs that are made from what it finds."""
+
+from groupclocks.errors import TooMany
+from groupclocks.runs.runs import Run
+
+
+class Part:
+    """The least patterns that a search has found in its rounds, as integers."""
+
+    def __init__(self, fields, limit):
+        """No round may have more patterns than the limit."""
+        self.fields = fields
+        self.limit = limit
+        self.lowest = []
+        # Those of the last round that are new in it: only from them can more patterns come.
+        self.fresh = []
+        # For each pattern that was once kept, the step to another one, and that one; None where a way ends.
+        self._origins = {}
+        self._seen = {}
+
+    def take(self, found):
+        """Begin a round with these patterns, a dict from integers to origins, besides the kept ones."""
+        fields, fresh = self.fields, []
+        # No later one is below an earlier one, as the integers ascend.
+        for number in sorted(found):
+            if number in self._seen:
+                continue
+            self._seen[number] = True
+            if not fields.is_above_any(number, self.lowest) and not fields.is_above_any(number, fresh):
+                fresh.append(number)
+                self._origins[number] = found[number]
+                if len(fresh) > self.limit:
+                    raise TooMany(self.limit)
+        self.lowest = [number for number in self.lowest if not fields.is_above_any(number, fresh)] + fresh
+        self.fresh = fresh
+
+    def found_ahead(self, steps):
+        """The patterns ahead of the new ones by some steps, with their origins, but none that says nothing new."""
+        fields, found = self.fields, {}
+        for number in self.fresh:
+            for step in steps:
+                if number & step.useful and not number & step.wrong:
+                    found[fields.ahead(step, number)] = (step, number)
+        return found
+
+    def way(self, number):
+        """The steps that lead from a pattern that was once kept to the end of its way, and the pattern at the end."""
+        steps = []
+        while self._origins[number] is not None:
+            step, number = self._origins[number]
+            steps.append(step)
+        return steps, number
+
+    def patterns(self):
+        """The kept patterns, ascending."""
+        return tuple(sorted([self.fields.pattern_of(number) for number in self.lowest]))
+
+    def fitting_start(self):
+        """The kept patterns that can fit the start."""
+        return [number for number in self.lowest if self.fields.can_fit_start(number)]
+
+
+def is_covered(fields, steps, numbers):
+    """Whether each pattern ahead of one of these by a step, if there is one, has one of them below it."""
+    least = fields.least(numbers)
+    covered = {number: True for number in least}
+    # What holds for the least ones holds for the others: what is ahead of them has what is ahead of these below it.
+    for number in least:
+        for step in steps:
+            if number & step.useful and not number & step.wrong:
+                found = fields.ahead(step, number)
+                covered[found] = found in covered or fields.is_above_any(found, least)
+                if not covered[found]:
+                    return False
+    return True
+
+
+class Walk:
+    """A run in the making, in which anybody takes part who is where an event needs somebody."""
+
+    def __init__(self, system, numbers, end=()):
+        """`end` is what follows behind owner and state in the places at the start."""
+        self._system = system
+        self._numbers = numbers
+        self._events = []
+        self._where = {}
+        for (pool, states), many in zip(system.pools.items(), numbers):
+            self._where[(pool, states[0], *end)] = list(range(many))
+
+    def go(self, name, befores, behinds):
+        """Add an event of an action that finds its participants in some places and leads them to others."""
+        pools = self._system.pools
+        moves = [move for move in self._system[name].moves if move[0] in pools]
+        taken = [self._where[place].pop() for place in befores if place[0] in pools]
+        goals = [place for place in behinds if place[0] in pools]
+        for goal, number in zip(goals, taken):
+            self._where.setdefault(goal, []).append(number)
+        # Members in equal moves ascend; equal moves stand beside one another.
+        self._events.append((name, tuple([number for _, number in sorted(list(zip(moves, taken)))])))
+
+    def run(self):
+        """The run with the events that were added."""
+        return Run(self._system, self._numbers, tuple(self._events))
