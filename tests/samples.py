@@ -4,7 +4,10 @@ import re
 
 from groupclocks import errors
 from groupclocks.base.systems import Action, System
+from groupclocks.clocks.clocks import Clocks
+from groupclocks.clocks.watch import Watch
 from groupclocks.cover.reach import Reach
+from groupclocks.order.pairs import Order
 from groupclocks.runs.runs import Run
 
 SERVE_LINES = (
@@ -30,7 +33,8 @@ NO_TUPLES = (
     None, True, False, 0, 1, -1, 10 ** 59, 10 ** 99, -10 ** 99, "", " ", "Ask", "a1", "a  b", "a-b", "\n", "ask\n",
     "abcdefghi", "x" * 9000, [], [1], ["ask"], [("client", "out", "in")], [[[[[[[[1]]]]]]]], {}, {"ask": "a"},
     {1: 2}, {None: []}, {(1, 2): {}}, {"server": ("idle",)}, Action("ask", (("client", "out", "in"),)), SERVE,
-    errors.InvalidName("wrong"), errors.ParseError(None), Run(SERVE, (1,)), Reach(LOCK, ((), ())),
+    errors.InvalidName("wrong"), errors.ParseError(None), Run(SERVE, (1,)), Reach(LOCK, ((), ())), Order(MAIL),
+    Clocks(Order(MAIL), ()), Watch(MAIL, ("send",)),
 )
 TUPLES = (
     (), (1,), (None,), (True,), ("Ask",), ("",), ("a", 1), ("a", ["b"]), ([],), ({},), ("a", "b", "c"), DEEP,

@@ -200,3 +200,198 @@ def random_system(seed, agents, pools, states, actions, moves=3):
         chosen = [(name, source.choice(known[name]), source.choice(known[name])) for name in owners]
         made.append(Action(letter, tuple(chosen)))
     return System(lone, shared, tuple(made))
+
+
+def reachable_states(system, numbers):
+    """All states of affairs to which runs with so many members lead."""
+    events, level = all_events(system, numbers), [start_of(system, numbers)]
+    found = {frozen(level[0]): level[0]}
+    while level:
+        following = [behind(system, states, event) for states in level for event in events]
+        level = []
+        for states in following:
+            if states is not None and frozen(states) not in found:
+                found[frozen(states)] = states
+                level.append(states)
+    return list(found.values())
+
+
+def can_be_concurrent(system, numbers, one, other):
+    """Whether in some state of affairs events of both actions are possible that share no participant."""
+    events = all_events(system, numbers)
+    for states in reachable_states(system, numbers):
+        possible = [event for event in events if behind(system, states, event) is not None]
+        for first in [event for event in possible if event[0] == one]:
+            mine = {who for who, _, _ in people_of(system, first)}
+            for second in [event for event in possible if event[0] == other]:
+                if not mine & {who for who, _, _ in people_of(system, second)}:
+                    return True
+    return False
+
+
+def stamps_of(system, groups, carriers, numbers, events):
+    """The stamps of the events, and the numbers of the participants at the end, by the words of [0.16]."""
+    kept = {who: [0] * len(groups) for who in start_of(system, numbers)}
+    stamps = []
+    for event in events:
+        people = [who for who, _, _ in people_of(system, event)]
+        stamp = []
+        for at, group in enumerate(groups):
+            number = max(kept[who][at] for who in people)
+            stamp.append(number + 1 if event[0] in group else number)
+            if event[0] in group or event[0] in carriers[at]:
+                for who in people:
+                    kept[who][at] = stamp[at]
+        stamps.append(tuple(stamp))
+    return tuple(stamps), {who: tuple(numbers) for who, numbers in kept.items()}
+
+
+def right_stamps(system, groups, events):
+    """For each event and group, how many events of the group are before it or are it."""
+    pasts = all_pasts(system, events)
+    return tuple(tuple(sum(events[at][0] in group for at in pasts[index] | {index}) for group in groups)
+                 for index in range(len(events)))
+
+
+def tagged_behind(system, tagged, event, carriers, is_watched=False):
+    """The states and tags behind an event, by the words of [9.1], or None if it is not possible."""
+    people = people_of(system, event)
+    if any(tagged[who][0] != source for who, source, _ in people):
+        return None
+    tags = [tagged[who][1] for who, _, _ in people]
+    if is_watched or (event[0] in carriers and "told" in tags):
+        tags = ["told"] * len(tags)
+    elif set(tags) != {"fresh"}:
+        tags = ["behind" if tag == "fresh" else tag for tag in tags]
+    return {**tagged, **{who: (goal, tag) for (who, _, goal), tag in zip(people, tags)}}
+
+
+def tagged_at_end(system, numbers, events, index, carriers):
+    """The states and tags at the end of a run in which the event with this index is the watched one."""
+    states = at_end(system, numbers, events[:index])
+    tagged = {who: (state, "fresh") for who, state in states.items()}
+    for at, event in enumerate(events[index:]):
+        tagged = tagged_behind(system, tagged, event, carriers, at == 0)
+    return tagged
+
+
+def watched_ends(system, numbers, starts, barred, carriers):
+    """All states of affairs with tags at the ends of watched runs with so many members."""
+    events, level = all_events(system, numbers), []
+    for states in reachable_states(system, numbers):
+        fresh = {who: (state, "fresh") for who, state in states.items()}
+        level += [tagged_behind(system, fresh, event, carriers, True) for event in events if event[0] in starts]
+    found = {}
+    while level:
+        new = {frozen(tagged): tagged for tagged in level if tagged is not None}
+        new = {key: tagged for key, tagged in new.items() if key not in found}
+        found.update(new)
+        allowed = [event for event in events if event[0] not in barred]
+        level = [tagged_behind(system, tagged, event, carriers) for tagged in new.values() for event in allowed]
+    return list(found.values())
+
+
+def all_tagged(system, numbers):
+    """All ways in which the participants can be in states of their owners with tags."""
+    start = start_of(system, numbers)
+    places = [[(state, tag) for state in system.states(owner) for tag in ("behind", "fresh", "told")] for owner, _ in start]
+    for chosen in itertools.product(*places):
+        yield dict(zip(start, chosen))
+
+
+def all_watched_patterns(system, most):
+    """All watched patterns with at most so many members in all."""
+    tags = ("behind", "fresh", "told")
+    lone = [[()] + [((agent, state, tag),) for state in states for tag in tags] for agent, states in system.agents.items()]
+    places = sorted((pool, state, tag) for pool, states in system.pools.items() for state in states for tag in tags)
+    members = [()]
+    for many in range(1, most + 1):
+        for chosen in itertools.combinations_with_replacement(places, many):
+            members.append(tuple((*place, chosen.count(place)) for place in sorted(set(chosen))))
+    for chosen in itertools.product(*lone):
+        for shared in members:
+            yield tuple(sorted(itertools.chain(*chosen))), shared
+
+
+def watched_ahead(system, name, pattern, carriers):
+    """The watched patterns ahead of a watched pattern by an action, by the words of [9.3]."""
+    moves, found = system[name].moves, []
+    for tags in itertools.product(("behind", "fresh", "told"), repeat=len(moves)):
+        lone = {owner: place for owner, *place in pattern[0]}
+        shared = {entry[:-1]: entry[-1] for entry in pattern[1]}
+        told = tags
+        if name in carriers and "told" in tags:
+            told = ("told",) * len(tags)
+        elif set(tags) != {"fresh"}:
+            told = tuple("behind" if tag == "fresh" else tag for tag in tags)
+        if any(owner in lone and lone[owner] != [goal, tag] for (owner, _, goal), tag in zip(moves, told)):
+            continue
+        for (owner, _, goal), tag in zip(moves, told):
+            if (owner, goal, tag) in shared:
+                shared[owner, goal, tag] = max(shared[owner, goal, tag] - 1, 0)
+        for (owner, source, _), tag in zip(moves, tags):
+            if owner in system.agents:
+                lone[owner] = [source, tag]
+        for (owner, source, _), tag in zip(moves, tags):
+            if owner in system.pools:
+                shared[owner, source, tag] = shared.get((owner, source, tag), 0) + 1
+        found.append((tuple(sorted((owner, *place) for owner, place in lone.items())),
+                      tuple((*place, shared[place]) for place in sorted(shared) if shared[place])))
+    return least_of(found)
+
+
+def watched_first(system, name, pattern):
+    """The pattern ahead of a watched pattern by the watched event, by the words of [9.3], or None."""
+    lone, shared = {}, {}
+    moves = list(system[name].moves)
+    goals = [(owner, goal) for owner, _, goal in moves]
+    for owner, source, _ in moves:
+        if owner in system.agents:
+            lone[owner] = source
+        else:
+            shared[owner, source] = shared.get((owner, source), 0) + 1
+    for owner, state, tag in pattern[0]:
+        if tag == "behind" or (tag == "told" and (owner, state) not in goals) or (tag == "fresh" and owner in lone):
+            return None
+        if tag == "fresh":
+            lone[owner] = state
+    for owner, state, tag, number in pattern[1]:
+        if tag == "behind" or (tag == "told" and goals.count((owner, state)) < number):
+            return None
+        if tag == "fresh":
+            shared[owner, state] = shared.get((owner, state), 0) + number
+    return tuple(sorted(lone.items())), tuple((*place, shared[place]) for place in sorted(shared))
+
+
+def is_closed_pair(watch, targets, early, late):
+    """Whether these patterns are closed for the targets, by the words of [9.4]."""
+    system = watch.system
+    behind_all = [one for pattern in late for name in system.names if name not in watch.barred
+                  for one in watched_ahead(system, name, pattern, watch.carriers)]
+    ahead_all = [watched_first(system, name, pattern) for pattern in late for name in watch.starts]
+    ahead_all += [ahead_of(system, name, pattern) for pattern in early for name in system.names]
+    return (all(any(is_under(one, pattern) for one in late) for pattern in [*targets, *behind_all])
+            and all(pattern is None or any(is_under(one, pattern) for one in early) for pattern in ahead_all))
+
+
+def watched_rounds(watch, targets, most=1000):
+    """The pairs of patterns of all rounds up to the last one, by the words of the class Watch.
+
+    None if some round has more than so many patterns in both parts.
+    """
+    system, rounds, known = watch.system, [((), least_of(targets))], {}
+    allowed = [name for name in system.names if name not in watch.barred]
+    while len(rounds[-1][0]) + len(rounds[-1][1]) <= most:
+        early, late = rounds[-1]
+        for pattern in late:
+            if pattern not in known:
+                firsts = [watched_first(system, name, pattern) for name in watch.starts]
+                later = [watched_ahead(system, name, pattern, watch.carriers) for name in allowed]
+                known[pattern] = [one for one in firsts if one is not None], [one for row in later for one in row]
+        more = [ahead_of(system, name, pattern) for pattern in early for name in system.names]
+        more = [one for one in more if one is not None] + [one for pattern in late for one in known[pattern][0]]
+        following = (least_of([*early, *more]), least_of([*late, *[one for pattern in late for one in known[pattern][1]]]))
+        if following == rounds[-1]:
+            return rounds
+        rounds.append(following)
+    return None

@@ -22,6 +22,14 @@ FUNCTIONS = {
     "groupclocks.cover.reach": {
         "is_closed": "(system, target, value)", "is_certificate": "(system, target, value)",
     },
+    "groupclocks.order.pairs": {
+        "is_ordered": "(system, one, other)", "is_order_certificate": "(system, one, other, value)",
+    },
+    "groupclocks.order.groups": {
+        "is_group": "(order, value)", "loose_actions": "(order)", "greatest_groups": "(order, names)",
+        "fewest_groups": "(order, names)", "how_many": "(order, names)", "each_partition": "(order, names)",
+        "parted_run": "(order, names)",
+    },
 }
 CONSTANTS = {
     "groupclocks.base.words": {"MAX_LETTERS": 8, "MAX_NAMES": 16},
@@ -31,6 +39,8 @@ CONSTANTS = {
     "groupclocks.runs.runs": {"MAX_MEMBERS": 2000, "MAX_EVENTS": 2000},
     "groupclocks.cover.patterns": {"MAX_TARGET": 40},
     "groupclocks.cover.reach": {"MAX_ROUND": 400, "MAX_CLOSED": 2000},
+    "groupclocks.order.groups": {"MAX_ASKED": 12},
+    "groupclocks.clocks.watch": {"TAGS": ("fresh", "behind", "told")},
 }
 ERRORS = {
     "ClockError": None, "InvalidName": None, "InvalidAction": None, "InvalidSystem": None, "InvalidRun": None,
@@ -68,6 +78,30 @@ CLASSES = {
             ("system", "target", "rounds", "closed", "rows", "fewest", "steps", "is_reachable"),
             {"run": "(self, *, numbers=None)", "certificate": "(self)", "__contains__": None, "__len__": "(self)",
              "__eq__": None, "__str__": "(self)"},
+        ),
+    },
+    "groupclocks.order.pairs": {
+        "Order": (
+            "(system)", ("system", "ordered", "concurrent"),
+            {"is_ordered": "(self, one, other)", "least_members": "(self, one, other)",
+             "certificate": "(self, one, other)", "run": "(self, one, other)", "__contains__": None,
+             "__len__": "(self)", "__eq__": None, "__str__": "(self)"},
+        ),
+    },
+    "groupclocks.clocks.clocks": {
+        "Clocks": (
+            "(order, groups, *, carriers=None)", ("system", "groups", "carriers"),
+            {"group_of": "(self, name)", "stamps": "(self, run)", "kept": "(self, run)", "right": "(self, run)",
+             "first_wrong": "(self, run)", "is_told": "(self, run, one, other)", "__len__": "(self)",
+             "__eq__": None, "__str__": "(self)"},
+        ),
+    },
+    "groupclocks.clocks.watch": {
+        "Watch": (
+            "(system, starts, *, barred=(), carriers=())", ("system", "starts", "barred", "carriers"),
+            {"tags": "(self, run, index)", "is_pattern": "(self, value)", "is_match": "(self, run, index, pattern)",
+             "ahead": "(self, name, pattern)", "first": "(self, name, pattern)", "certificate": "(self, targets)",
+             "is_certificate": "(self, targets, value)", "__eq__": None, "__str__": "(self)"},
         ),
     },
 }

@@ -1,0 +1,1 @@
+"""Clocks for groups, and watched runs."""

@@ -1,0 +1,1 @@
+"""Which actions are ordered, and their groups."""
