@@ -67,7 +67,7 @@ CLASSES = {
             "(system, numbers, events=())", ("system", "numbers", "events", "finals"),
             {"__getitem__": "(self, index)", "__len__": "(self)", "__eq__": None, "__str__": "(self)",
              "participants": "(self, index)", "past": "(self, index)", "is_before": "(self, one, other)",
-             "is_concurrent": "(self, one, other)", "each_possible": "(self)", "__add__": "(self, event)",
+             "is_concurrent": "(self, one, other)", "each_possible": "(self)", "__add__": None,
              "part": "(self, indices)", "widened": "(self, numbers)", "each_order": "(self)",
              "is_same": "(self, value)"},
         ),

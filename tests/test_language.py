@@ -16,6 +16,7 @@ BROKEN = (
     ("L5", "class A:\n    def __hash__(self):\n        return 1\n"),
     ("L5", "class A:\n    def __getitem__(self, at):\n        return 1\n"),
     ("L6", "async def f():\n    pass\n"), ("L7", "def f():\n    return 1.5\n"), ("L7", "def f(a):\n    return a / 2\n"),
+    ("L7", "def f(a, b):\n    return a[(1, *b)]\n"), ("L7", "def f(a):\n    return any(b for b in a)\n"),
     ("L8", "def f(x):\n    return hash(x)\n"), ("L8", "def f(x):\n    return open(x)\n"),
     ("L10", "A = '" + "x" * 120 + "'\n"), ("L10", "A = 1\n" * 400), ("L10", "def f():\n" + "    pass\n" * 40),
     ("L5", "def __f():\n    pass\n"), ("L12", "def _1():\n    pass\n"), ("L12", "_wall = 1\n"), ("L14", "A = '\u00e9'\n"), ("L14", "def f():\n\tpass\n"),
@@ -56,6 +57,37 @@ class LanguageTest(unittest.TestCase):
             "class C:\n    def __init__(self):\n        self.a = 1\n", "def g():\n    yield 1\n", "class D:\n    def g(self):\n        return 1\n",
         )
         self.assertEqual(len(language.check_names(texts)), 3)
+
+    def test_what_changes_nothing(self):
+        self.assertEqual(language.check_steady(self.texts.values()), [])
+
+    def test_the_check_finds_what_changes_something(self):
+        text = """
+class A:
+    def __init__(self):
+        self.a = []
+    @property
+    def b(self):
+        self.a.append(1)
+        return helper(self.a)
+    def __eq__(self, other):
+        rows = self.a
+        rows[0] = 1
+        return True
+    def __len__(self):
+        rows = []
+        rows.append(1)
+        return len(rows)
+    def free(self):
+        self.a.append(2)
+def helper(xs):
+    xs[0] = 1
+    x = []
+    x.append(2)
+    return xs
+"""
+        found = language.check_steady([text])
+        self.assertEqual(found, ["L5 __eq__: changes rows[0]", "L5 b: calls self.a.append", "L5 helper: changes xs[0]"])
 
     def test_the_check_finds_what_is_broken(self):
         for rule, text in BROKEN:

@@ -32,7 +32,7 @@ class Hunt:
         if not starts:
             return "closed", self._early.patterns(), self._late.patterns()
         rows = {number: start_row(self._system, self._early.fields.pattern_of(number)) for number in starts}
-        start = min(starts, key=lambda number: sum(rows[number]))
+        start = min(starts, key=lambda one: sum(rows[one]))
         run, index = self._run(start, rows[start])
         return "run", run.numbers, run.events, index
 

@@ -85,7 +85,8 @@ class Walk:
         self._events = []
         self._where = {}
         for (pool, states), many in zip(system.pools.items(), numbers):
-            self._where[(pool, states[0], *end)] = list(range(many))
+            place = (pool, states[0], *end)
+            self._where[place] = list(range(many))
 
     def go(self, name, befores, behinds):
         """Add an event of an action that finds its participants in some places and leads them to others."""

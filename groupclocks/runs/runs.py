@@ -42,7 +42,8 @@ def parts_of(system, event):
     """The triples (participant, source, target) of an event, one for each move of its action."""
     name, members = event
     agents = system.agents
-    parts, taken = [], 0
+    parts = []
+    taken = 0
     for owner, source, goal in system[name].moves:
         if owner in agents:
             parts.append(((owner, 0), source, goal))
@@ -136,7 +137,9 @@ class Run:
 
     def each_order(self):
         """All orders in which the events make a run where each has the same past, one by one, ascending."""
-        many, order, tried = len(self._events), [], 0
+        many = len(self._events)
+        order = []
+        tried = 0
         if many == 0:
             yield ()
         waits, leads = _links(self._system, self._events)
@@ -194,16 +197,18 @@ class Run:
     def __str__(self):
         return f"run of {len(self._events)} events, {sum(self._numbers)} members"
 
-    def __add__(self, event):
-        if not _is_event_there(self._system, self._numbers, event):
+    def __add__(self, other):
+        if not _is_event_there(self._system, self._numbers, other):
             raise InvalidOperation("this is no event whose members are there")
         if len(self._events) >= MAX_EVENTS:
             raise TooMany(MAX_EVENTS)
-        told = _played(self._system, self._states, self._latest, self._pasts, (event,))
+        states, latest, pasts = _played(self._system, self._states, self._latest, self._pasts, (other,))
         # Only the new event is played: a run that is put together event by event is not played again for each.
         grown = Run(self._system, self._numbers)
-        grown._events = self._events + (event,)
-        grown._states, grown._latest, grown._pasts = told
+        grown._events = self._events + (other,)
+        grown._states = states
+        grown._latest = latest
+        grown._pasts = pasts
         return grown
 
 
@@ -271,7 +276,8 @@ def _played(system, states, latest, pasts, events):
     new_latest = {who: latest[who] for who in latest}
     new_pasts = list(pasts)
     for event in events:
-        index, past = len(new_pasts), 0
+        index = len(new_pasts)
+        past = 0
         for who, source, goal in parts_of(system, event):
             if new_states[who] != source:
                 raise NotPossible(index)
