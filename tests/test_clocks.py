@@ -226,6 +226,7 @@ class ErrorTest(unittest.TestCase):
         for other in (FEW, BOTH, Clocks(MAILED, ()), Clocks(MAILED, (("get",),)), Clocks(SERVED, (("ask",),)), FULL.groups, str(FULL)) + VALUES:
             check_equality(self, FULL, other, False)
         check_equality(self, Clocks(MAILED, ()), Clocks(SERVED, ()), False)
+        check_equality(self, FEW, Clocks(MAILED, (("get",),), carriers=((),)), False)
 
     def test_it_never_changes(self):
         check_fixed(self, FULL, "system", "groups", "carriers")

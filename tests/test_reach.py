@@ -234,6 +234,22 @@ class RunTest(unittest.TestCase):
         self.assertTrue(set(made.run().events) <= set(slow.all_events(TWINS, (4,))))
 
 
+    def test_rows_that_another_one_is_below(self):
+        # Both patterns are least ones, as one of them asks for an agent, but one row is below the other one.
+        system = System.from_lines("agent p s", "pool x a b", "action one p s s, x a b", "action two x a a, x a b")
+        made = Reach(system, ((), (("x", "b", 1),)))
+        self.assertEqual((len(made), made.rows, made.fewest, made.run().numbers), (3, ((1,),), 1, (1,)))
+        self.assertEqual(made.run(numbers=(2,)).numbers, (2,))
+
+    def test_as_many_members_as_rounds_can_ask_for(self):
+        # Each step of the first agent needs three members more: 180 of 215 steps.
+        system, target = counter(216)
+        lines = [f"{line}, x s t, x s t, x s t" if line.startswith("action p") else line for line in system.lines]
+        made = Reach(System.from_lines("pool x s t", *lines), target)
+        self.assertEqual((made.rows, made.steps, len(made.run()), made.run().finals["x", 539]), (((540,),), 215, 215, "t"))
+        check_error(self, InvalidOperation, {}, made.run, numbers=(539,))
+
+
 class LimitTest(unittest.TestCase):
     def test_400_patterns_and_401(self):
         for left, right in ((2, 1), (3, 2), (4, 4), (5, 3)):

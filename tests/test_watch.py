@@ -125,6 +125,13 @@ class TagsTest(unittest.TestCase):
         self.assertEqual(tuple(Watch(SERVE, ("think",)).tags(run, 1).values()), ("fresh", "told", "fresh", "behind"))
         self.assertEqual(tuple(Watch(SERVE, ("think",), carriers=("ask", "reply")).tags(run, 1).values()), ("fresh", "told", "fresh", "told"))
 
+    def test_how_many_have_a_tag(self):
+        run = Run(MAIL, (5,), tuple(("send", (number,)) for number in range(4)) + (("get", (0,)), ("get", (1,))))
+        watch = Watch(MAIL, ("send",))
+        for state, tag, number in (("sent", "behind", 2), ("used", "fresh", 1), ("used", "told", 1), ("sent", "told", 0), ("blank", "fresh", 1), ("sent", "fresh", 0)):
+            for asked in (1, 2, 3):
+                self.assertIs(watch.is_match(run, 1, ((), (("letter", state, tag, asked),))), asked <= number)
+
     def test_wrong_runs_and_indices(self):
         for value in without_kind(VALUES, Run) + [Run(SERVE, (1,)), Run(MAIL.without(("get",)), (2,)), POST.events]:
             check_error(self, InvalidRun, {}, WATCH.tags, value, None)
@@ -214,6 +221,7 @@ class PatternTest(unittest.TestCase):
             (((), (("letter", "used", "behind", 1),)), None),
         ):
             self.assertEqual(WATCH.first("send", pattern), first, pattern)
+        self.assertEqual(WATCH.first("get", ((("p", "at", "fresh"),), (("letter", "blank", "fresh", 1),))), ((("p", "at"), ("q", "at")), (("letter", "blank", 1), ("letter", "sent", 1))))
         lone = Watch(ALONE, ("left",))
         self.assertEqual(lone.first("left", ((("p", "s", "told"),), ())), None)
         self.assertEqual(lone.first("left", ((("p", "t", "told"), ("q", "s", "fresh")), ())), ((("p", "s"), ("q", "s")), ()))

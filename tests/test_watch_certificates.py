@@ -11,6 +11,7 @@ from groupclocks.errors import InvalidOperation, TooMany
 from groupclocks.runs.runs import Run
 from tests import slow
 from tests.samples import ALONE, LOCK, MAIL, SERVE, TWINS, VALUES, check_error, without_kind
+from tests.test_reach import counter
 from tests.test_watch import BEHIND, EMPTY, NO_PATTERNS, WATCH, all_watches, numbers_of
 
 # In LOCK, nobody is in beside a client that is told of a "take".
@@ -79,6 +80,24 @@ class MadeTest(unittest.TestCase):
     def test_an_action_that_is_never_possible(self):
         watch = Watch(System.from_lines("agent p s t", "pool x a", "action never p t t", "action other x a a"), ("never",))
         self.assertEqual(watch.certificate((EMPTY,))[0], "closed")
+
+    def test_several_ways_with_different_numbers(self):
+        lines = ("agent p s t", "pool x a", "pool y a", "action left p s t, x a a, x a a, x a a", "action right p s t, y a a", "action mark p t t")
+        for system in (System.from_lines(*lines), System.from_lines(*lines[:3], lines[3].replace("x", "y"), lines[4].replace("y", "x"), lines[5])):
+            found = Watch(system, ("mark",)).certificate((((("p", "t", "told"),), ()),))
+            self.assertEqual((sum(found[1]), len(found[2]), found[3]), (1, 2, 1))
+            found = Watch(system, ("left", "right")).certificate((((("p", "t", "told"),), ()),))
+            self.assertEqual((sum(found[1]), len(found[2]), found[3]), (1, 1, 0))
+
+    def test_as_many_members_as_rounds_can_ask_for(self):
+        # Each step of the first agent needs three members more: 180 of 215 steps, all of them ahead of the watched event.
+        counting, (digits, _) = counter(216)
+        lines = [f"{line}, x s t, x s t, x s t" if line.startswith("action p") else line for line in counting.lines]
+        lines = [line for line in lines if not line.startswith(("agent s", "action s"))]
+        system = System.from_lines("pool x s t", "agent z s", *lines, "action mark z s s")
+        target = (tuple((*place, "fresh") for place in digits[:3]) + (("z", "s", "told"),), ())
+        found = Watch(system, ("mark",), barred=system.names).certificate((target,))
+        self.assertEqual((found[0], found[1], len(found[2]), found[3]), ("run", (540,), 216, 215))
 
     def test_tags_that_take_turns(self):
         # Two members in equal moves, of which one is told and the other one is not.

@@ -41,7 +41,6 @@ class Hunt:
         early, late = self._early, self._late
         early_steps = plain_steps(self._system, early.fields)
         late_steps = allowed_steps(self._watch, late.fields)
-        early.take({})
         late.take({late.fields.number_of(target): None for target in targets})
         at = 0
         while early.fresh or late.fresh:

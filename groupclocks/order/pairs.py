@@ -1,6 +1,6 @@
 """Which actions are ordered: no event of the one is ever concurrent with one of the other."""
 
-from groupclocks.base.checks import check_action_name, check_system, is_action_name
+from groupclocks.base.checks import check_action_name, check_system
 from groupclocks.cover.patterns import needs_of_both, shared_agents
 from groupclocks.cover.reach import Reach, is_certificate
 from groupclocks.errors import InvalidOperation
@@ -71,8 +71,6 @@ class Order:
 
     def __contains__(self, value):
         if not isinstance(value, tuple) or len(value) != 2:
-            return False
-        if not all([is_action_name(self._system, name) for name in value]):
             return False
         one, other = value
         return (one, other) in self._ordered or (other, one) in self._ordered

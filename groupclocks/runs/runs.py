@@ -57,7 +57,6 @@ class Run:
     """Events of a system with so many members, each of them possible behind the earlier ones. It never changes."""
 
     def __init__(self, system, numbers, events=()):
-        check_system(system)
         if not is_numbers(system, numbers) or not _are_events(system, numbers, events):
             raise InvalidRun("there is no such run")
         if len(events) > MAX_EVENTS:
