@@ -183,6 +183,8 @@ class PatternTest(unittest.TestCase):
         self.assertEqual(found, slow.least_of(found))
         if name in watch.barred:
             self.assertEqual(found, ())
+        if name not in watch.starts:
+            self.assertIsNone(first)
         for numbers in numbers_of(system, 3):
             events = [event for event in slow.all_events(system, numbers) if event[0] == name]
             if name not in watch.barred:
@@ -190,7 +192,7 @@ class PatternTest(unittest.TestCase):
                     ends = [slow.tagged_behind(system, tagged, event, watch.carriers) for event in events]
                     leads = any(end is not None and slow.does_match(end, pattern) for end in ends)
                     self.assertIs(any(slow.does_match(tagged, one) for one in found), leads)
-            for states in slow.all_states(system, numbers):
+            for states in slow.all_states(system, numbers) if name in watch.starts else ():
                 fresh = {who: (state, "fresh") for who, state in states.items()}
                 ends = [slow.tagged_behind(system, fresh, event, watch.carriers, True) for event in events]
                 leads = any(end is not None and slow.does_match(end, pattern) for end in ends)
@@ -208,7 +210,7 @@ class PatternTest(unittest.TestCase):
 
     def test_many_digits(self):
         pattern = ((), (("letter", "sent", "fresh", NINES),))
-        self.assertEqual(WATCH.first("get", pattern), ((("q", "at"),), (("letter", "sent", NINES + 1),)))
+        self.assertEqual(Watch(MAIL, ("get",)).first("get", pattern), ((("q", "at"),), (("letter", "sent", NINES + 1),)))
         self.assertIn(((("q", "at", "told"),), (("letter", "sent", "fresh", NINES + 1),)), WATCH.ahead("get", pattern))
         self.assertIsNone(WATCH.first("send", ((), (("letter", "sent", "told", NINES),))))
 
@@ -221,10 +223,21 @@ class PatternTest(unittest.TestCase):
             (((), (("letter", "used", "behind", 1),)), None),
         ):
             self.assertEqual(WATCH.first("send", pattern), first, pattern)
-        self.assertEqual(WATCH.first("get", ((("p", "at", "fresh"),), (("letter", "blank", "fresh", 1),))), ((("p", "at"), ("q", "at")), (("letter", "blank", 1), ("letter", "sent", 1))))
+        both = Watch(MAIL, ("get", "send"))
+        self.assertEqual(both.first("get", ((("p", "at", "fresh"),), (("letter", "blank", "fresh", 1),))), ((("p", "at"), ("q", "at")), (("letter", "blank", 1), ("letter", "sent", 1))))
         lone = Watch(ALONE, ("left",))
         self.assertEqual(lone.first("left", ((("p", "s", "told"),), ())), None)
         self.assertEqual(lone.first("left", ((("p", "t", "told"), ("q", "s", "fresh")), ())), ((("p", "s"), ("q", "s")), ()))
+
+    def test_first_by_an_action_that_does_not_start(self):
+        told = ((("q", "at", "told"),), ())
+        for pattern in (EMPTY, BEHIND, told, ((("p", "at", "fresh"),), ()), ((), (("letter", "used", "told", 1),))):
+            self.assertIsNone(WATCH.first("get", pattern))
+            self.assertIsNone(Watch(MAIL, ("send",), barred=("get",), carriers=("get",)).first("get", pattern))
+        self.assertEqual(Watch(MAIL, ("get",)).first("get", told), ((("q", "at"),), (("letter", "sent", 1),)))
+        for value in (None, ((("q", "at"),), ()), [told]):
+            check_error(self, InvalidOperation, {}, WATCH.first, "get", value)
+        check_error(self, UnknownName, {"wanted": "fly"}, WATCH.first, "fly", None)
 
 
 class ErrorTest(unittest.TestCase):

@@ -83,6 +83,8 @@ class Watch:
         """The pattern ahead of a watched pattern by the watched event, if that is of this action, or None."""
         check_action_name(self._system, name)
         self._check_pattern(pattern)
+        if name not in self._starts:
+            return None
         return pattern_ahead_of_watched(self._system, name, pattern)
 
     def certificate(self, targets):
