@@ -1,5 +1,6 @@
 """Actions, and the systems of agents and pools that they move."""
 
+from groupclocks.base.plans import Plan
 from groupclocks.base.words import is_name, is_names
 from groupclocks.errors import InvalidAction, InvalidName, InvalidOperation, InvalidSystem, ParseError, UnknownName
 
@@ -65,6 +66,11 @@ class System:
         self._agents = _ascending(agents)
         self._pools = _ascending(pools)
         self._actions = _ascending({action.called: action for action in actions})
+        self._lines = _write_lines(self._agents, self._pools, self._actions)
+        pools = list(self._pools)
+        self._plans = {name: Plan(action.moves, pools) for name, action in self._actions.items()}
+        # What other modules have worked out about the system and need again: a system never changes.
+        self.notes = {}
 
     @classmethod
     def from_lines(cls, *lines):
@@ -102,10 +108,7 @@ class System:
     @property
     def lines(self):
         """The lines of the agents, of the pools and of the actions."""
-        agents = [" ".join(["agent", name, *states]) for name, states in self._agents.items()]
-        pools = [" ".join(["pool", name, *states]) for name, states in self._pools.items()]
-        actions = [f"action {action}" for action in self._actions.values()]
-        return tuple(agents + pools + actions)
+        return self._lines
 
     def states(self, owner):
         """The states of an agent or a pool."""
@@ -114,6 +117,10 @@ class System:
         if isinstance(owner, str) and owner in self._pools:
             return self._pools[owner]
         raise UnknownName(owner)
+
+    def plan(self, name):
+        """The plan of the action with this name."""
+        return self._plans[name]
 
     def with_action(self, action):
         """The system with this action, instead of the one with its name."""
@@ -164,8 +171,7 @@ class System:
         return len(self._actions)
 
     def __eq__(self, other):
-        return (isinstance(other, System) and self._agents == other._agents and self._pools == other._pools
-                and self._actions == other._actions)
+        return isinstance(other, System) and self._lines == other._lines
 
     def __str__(self):
         return f"system of {len(self._agents)} agents, {len(self._pools)} pools, {len(self._actions)} actions"
@@ -255,6 +261,13 @@ def _does_fit(action, agents, pools):
 def _ascending(table):
     """A copy of a dict, with ascending keys."""
     return {name: table[name] for name in sorted(table)}
+
+
+def _write_lines(agents, pools, actions):
+    """The lines of a system with these agents, pools and actions."""
+    lone = [" ".join(["agent", name, *states]) for name, states in agents.items()]
+    shared = [" ".join(["pool", name, *states]) for name, states in pools.items()]
+    return tuple([*lone, *shared, *[f"action {action}" for action in actions.values()]])
 
 
 def _write_moves(moves):

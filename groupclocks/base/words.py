@@ -5,10 +5,13 @@ from groupclocks.errors import InvalidName, ParseError
 MAX_LETTERS = 8
 MAX_NAMES = 16
 
+# Integers with at most sixty digits are less, without their sign.
+TOO_GREAT = 10 ** 60
+
 
 def is_integer(value):
     """Whether the value is an integer of at most sixty digits."""
-    return isinstance(value, int) and not isinstance(value, bool) and abs(value) < 10 ** 60
+    return isinstance(value, int) and not isinstance(value, bool) and -TOO_GREAT < value < TOO_GREAT
 
 
 def is_name(value):

@@ -4,7 +4,7 @@ from groupclocks.base.checks import are_action_names, check_action_name, is_inde
 from groupclocks.errors import InvalidClocks, InvalidNumber, InvalidOperation, InvalidRun
 from groupclocks.order.groups import is_group
 from groupclocks.order.pairs import check_order
-from groupclocks.runs.runs import Run, parts_of
+from groupclocks.runs.runs import Run
 
 
 class Clocks:
@@ -94,8 +94,8 @@ class Clocks:
         """The stamps of the events, and the dict from the participants to their numbers, with these carriers."""
         kept = {who: (0,) * len(self._groups) for who in run.finals}
         stamps = []
-        for event in run.events:
-            name, people = event[0], [who for who, _, _ in parts_of(self._system, event)]
+        for (name, _), parts in zip(run.events, run.parts):
+            people = [who for who, _, _ in parts]
             stamp, behind = [], []
             for at, group in enumerate(self._groups):
                 stamp.append(max([kept[who][at] for who in people]) + (1 if name in group else 0))

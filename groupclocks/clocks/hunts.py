@@ -2,7 +2,7 @@
 
 from groupclocks.base.systems import MAX_SHARED
 from groupclocks.clocks.tagged import BEHIND, FRESH, TOLD, pattern_ahead_of_watched, tagged_places, tagged_steps
-from groupclocks.cover.fields import Fields, greatest_number, plain_places, plain_step
+from groupclocks.cover.fields import greatest_number, plain_places, plain_step
 from groupclocks.cover.patterns import start_row
 from groupclocks.cover.reach import MAX_ROUND, are_patterns, can_any_fit
 from groupclocks.cover.search import Part, Walk, is_covered
@@ -18,8 +18,8 @@ class Hunt:
         # In each round, the patterns ahead ask for at most so many members more than those behind them.
         most = greatest_number(targets) + MAX_SHARED * (MAX_ROUND + 1)
         places = tagged_places(watch.system)
-        self._early = Part(Fields(plain_places(watch.system), most), MAX_ROUND)
-        self._late = Part(Fields(places, most), MAX_ROUND)
+        self._early = Part(plain_places(watch.system).fields_for(most), MAX_ROUND)
+        self._late = Part(places.fields_for(most), MAX_ROUND)
         barring = [place for place in [*places.lone, *places.shared] if place[2] == BEHIND]
         self._behind_bits = sum([self._late.fields.bits(place) for place in barring])
         # For each early pattern from which the watched event leads on, its action and the late pattern behind it.
@@ -106,7 +106,7 @@ def is_closed_pair(watch, targets, early, late):
         return False
     # An event needs at most so many members of a place more than a pattern asks for.
     most = greatest_number((*targets, *early, *late)) + MAX_SHARED
-    fields, late_fields = Fields(early_places, most), Fields(late_places, most)
+    fields, late_fields = early_places.fields_for(most), late_places.fields_for(most)
     numbers = [fields.number_of(pattern) for pattern in early]
     late_numbers = [late_fields.number_of(pattern) for pattern in late]
     firsts = [pattern_ahead_of_watched(system, name, pattern) for name in watch.starts for pattern in late]

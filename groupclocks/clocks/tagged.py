@@ -2,7 +2,6 @@
 
 from groupclocks.cover.fields import Places, Step
 from groupclocks.cover.patterns import needs_of
-from groupclocks.runs.runs import parts_of
 
 FRESH = "fresh"
 BEHIND = "behind"
@@ -12,7 +11,9 @@ ASCENDING = ("behind", "fresh", "told")
 
 def tagged_places(system):
     """The places of watched patterns: owners, states and tags."""
-    return Places(system.agents, system.pools, [(tag,) for tag in ASCENDING])
+    if "tagged" not in system.notes:
+        system.notes["tagged"] = Places(system.agents, system.pools, [(tag,) for tag in ASCENDING])
+    return system.notes["tagged"]
 
 
 def tags_behind(tags, does_carry):
@@ -28,7 +29,7 @@ def tags_at_end(run, index, carriers):
     """The dict from the participants of a run to their tags at its end, if this event is the watched one."""
     tags = {who: FRESH for who in run.finals}
     for at in range(index, len(run)):
-        people = [who for who, _, _ in parts_of(run.system, run[at])]
+        people = [who for who, _, _ in run.parts[at]]
         told = tags_behind(tuple([tags[who] for who in people]), run[at][0] in carriers)
         for who, tag in zip(people, told):
             tags[who] = TOLD if at == index else tag
@@ -46,6 +47,13 @@ def tagged_there(run, tags):
 
 def tagged_steps(system, fields, name, does_carry):
     """The steps of an action, one for each row of tags that its participants can have ahead of it."""
+    if (name, does_carry) not in fields.known_steps:
+        fields.known_steps[name, does_carry] = _new_steps(system, fields, name, does_carry)
+    return fields.known_steps[name, does_carry]
+
+
+def _new_steps(system, fields, name, does_carry):
+    """The steps of an action, one for each row of tags."""
     found = []
     for row in _tag_rows(system[name].moves):
         moves = list(zip(system[name].moves, row, tags_behind(row, does_carry)))

@@ -6,7 +6,7 @@ from groupclocks.clocks.hunts import Hunt, is_closed_pair
 from groupclocks.clocks.tagged import (
     pattern_ahead_of_watched, tagged_places, tagged_steps, tagged_there, tags_at_end,
 )
-from groupclocks.cover.fields import Fields, are_there, greatest_number
+from groupclocks.cover.fields import are_there, greatest_number
 from groupclocks.cover.patterns import MAX_TARGET
 from groupclocks.errors import InvalidNumber, InvalidOperation, InvalidRun
 from groupclocks.runs.runs import Run, run_or_none
@@ -58,7 +58,7 @@ class Watch:
 
     def is_pattern(self, value):
         """Whether the value is a watched pattern."""
-        return tagged_places(self._system).is_pattern(value)
+        return tagged_places(self._system).has_pattern(value)
 
     def is_match(self, run, index, pattern):
         """Whether a run in which this event is the watched one matches a watched pattern."""
@@ -73,11 +73,12 @@ class Watch:
         self._check_pattern(pattern)
         if name in self._barred:
             return ()
-        fields = Fields(tagged_places(self._system), greatest_number((pattern,)) + MAX_SHARED)
+        fields = tagged_places(self._system).fields_for(greatest_number((pattern,)) + MAX_SHARED)
         steps = tagged_steps(self._system, fields, name, name in self._carriers)
-        found = [fields.ahead(step, fields.number_of(pattern)) for step in steps]
-        least = fields.least([number for number in found if number is not None])
-        return tuple(sorted([fields.pattern_of(number) for number in least]))
+        number = fields.number_of(pattern)
+        found = [fields.ahead(step, number) for step in steps]
+        least = fields.least([one for one in found if one is not None])
+        return tuple(sorted([fields.pattern_of(one) for one in least]))
 
     def first(self, name, pattern):
         """The pattern ahead of a watched pattern by the watched event, if that is of this action, or None."""
@@ -133,7 +134,7 @@ class Watch:
     def _check_targets(self, targets):
         """Raise an error if these are no watched targets."""
         places = tagged_places(self._system)
-        if not isinstance(targets, tuple) or not all([places.is_pattern(target) for target in targets]):
+        if not isinstance(targets, tuple) or not all([places.has_pattern(target) for target in targets]):
             raise InvalidOperation("these are no watched patterns")
         if greatest_number(targets) > MAX_TARGET:
             raise InvalidOperation("a target asks for too many members")

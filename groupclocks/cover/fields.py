@@ -1,7 +1,9 @@
 """Where participants can be, and patterns as single integers."""
 
-from groupclocks.base.checks import is_ascending
-from groupclocks.base.words import is_integer
+from groupclocks.base.words import TOO_GREAT
+
+# How many bits the field of a place has at least: enough for each search that goes through its rounds.
+MIN_WIDTH = 12
 
 
 class Places:
@@ -16,25 +18,56 @@ class Places:
         self.shared = _places(pools, ends)
         firsts = [(owner, states[0]) for owner, states in {**agents, **pools}.items()]
         self.later = [place for place in [*self.lone, *self.shared] if place[:2] not in firsts]
+        self._fields = {}
 
-    def is_pattern(self, value):
+    def has_pattern(self, value):
         """Whether the value is a pattern over these places."""
         if not isinstance(value, tuple) or len(value) != 2:
             return False
-        lone, shared = value
-        if not _are_tuples(lone) or not _are_tuples(shared):
+        return self._are_lone(value[0]) and self._are_shared(value[1])
+
+    def _are_lone(self, value):
+        """Whether the value is an ascending tuple of places of different agents."""
+        if not isinstance(value, tuple):
             return False
-        if not all([_is_place(self.lone, entry) for entry in lone]):
+        earlier = ""
+        for entry in value:
+            if not isinstance(entry, tuple) or not _is_place(self.lone, entry) or entry[0] <= earlier:
+                return False
+            earlier = entry[0]
+        return True
+
+    def _are_shared(self, value):
+        """Whether the value is an ascending tuple of places of members, each with a number."""
+        if not isinstance(value, tuple):
             return False
-        if not all([_is_place(self.shared, entry[:-1]) and _is_number(entry[-1]) for entry in shared]):
-            return False
-        # An agent is in one place only; members of a pool can be asked for in several.
-        return is_ascending([entry[0] for entry in lone]) and is_ascending([entry[:-1] for entry in shared])
+        earlier = ()
+        for entry in value:
+            if not isinstance(entry, tuple) or not entry:
+                return False
+            place, number = entry[:-1], entry[-1]
+            if not _is_place(self.shared, place) or place <= earlier:
+                return False
+            if not isinstance(number, int) or isinstance(number, bool) or not 1 <= number < TOO_GREAT:
+                return False
+            earlier = place
+        return True
+
+    def fields_for(self, most):
+        """The fields for patterns over these places that ask for at most so many members in a place."""
+        width = MIN_WIDTH
+        while most >> width:
+            width = 2 * width
+        if width not in self._fields:
+            self._fields[width] = Fields(self, width)
+        return self._fields[width]
 
 
 def plain_places(system):
     """The places of patterns: owners and states."""
-    return Places(system.agents, system.pools, ((),))
+    if "plain" not in system.notes:
+        system.notes["plain"] = Places(system.agents, system.pools, ((),))
+    return system.notes["plain"]
 
 
 def greatest_number(patterns):
@@ -52,19 +85,24 @@ class Fields:
     """How patterns over some places are written as integers, so that two of them are compared at once.
 
     Each place has a field of bits, and above it a guard bit, which keeps a field that would fall below 0 from borrowing
-    from the next one. If a pattern is below another one, its integer is not greater.
+    from the next one. If a pattern is below another one, its integer is not greater. Numbers that are too great for
+    their fields are written as the greatest one.
     """
 
-    def __init__(self, places, most):
-        """No pattern asks for more than `most` members in a place; greater numbers are written as the greatest."""
-        self._width = most.bit_length()
-        self._limit = (1 << self._width) - 1
+    def __init__(self, places, width):
+        """Each field of members has so many bits."""
+        self.places = places
+        # The steps of actions between these places, for who has worked them out.
+        self.known_steps = {}
+        self._width = width
+        self._limit = (1 << width) - 1
         self._lone = {place: 2 * at for at, place in enumerate(places.lone)}
         first = 2 * len(places.lone)
         self._shared = {place: first + (self._width + 1) * at for at, place in enumerate(places.shared)}
         self._lone_bits = sum([1 << shift for shift in self._lone.values()])
+        self._agents_bits = [self.owner_bits(agent) for agent in sorted({place[0] for place in places.lone})]
         self._shared_guards = sum([(self._limit + 1) << shift for shift in self._shared.values()])
-        self._guards = self._shared_guards + 2 * self._lone_bits
+        self.guards = self._shared_guards + 2 * self._lone_bits
         self._later_bits = sum([self.bits(place) for place in places.later])
 
     def unit(self, place):
@@ -83,25 +121,41 @@ class Fields:
         """Whether the place is one of an agent."""
         return place in self._lone
 
+    def agents_bits(self, number):
+        """All bits of the fields of the agents that the pattern with this integer asks for."""
+        return sum([bits for bits in self._agents_bits if number & bits])
+
     def number_of(self, pattern):
         """The integer of a pattern."""
         lone, shared = pattern
-        asked = sum([1 << self._lone[place] for place in lone])
-        return asked + sum([min(entry[-1], self._limit) << self._shared[entry[:-1]] for entry in shared])
+        asked, limit = 0, self._limit
+        for place in lone:
+            asked = asked | 1 << self._lone[place]
+        for entry in shared:
+            asked = asked | min(entry[-1], limit) << self._shared[entry[:-1]]
+        return asked
 
     def pattern_of(self, number):
         """The pattern with this integer."""
-        lone = [place for place, shift in self._lone.items() if number >> shift & 1]
-        shared = [(*place, (number >> shift) & self._limit) for place, shift in self._shared.items()]
-        return tuple(lone), tuple([entry for entry in shared if entry[-1]])
+        lone, shared, limit = [], [], self._limit
+        if number & self._lone_bits:
+            lone = [place for place, shift in self._lone.items() if number >> shift & 1]
+        if number > self._lone_bits:
+            asked = [(place, (number >> shift) & limit) for place, shift in self._shared.items()]
+            shared = [(*place, many) for place, many in asked if many]
+        return tuple(lone), tuple(shared)
 
     def can_fit_start(self, number):
         """Whether the pattern with this integer asks for first states only."""
         return number & self._later_bits == 0
 
+    def lone_part(self, number):
+        """What the integer of a pattern tells of agents."""
+        return number & self._lone_bits
+
     def is_above_any(self, number, others):
         """Whether the pattern with this integer has one of the others below it."""
-        guards = self._guards
+        guards = self.guards
         guarded = number | guards
         for other in others:
             if (guarded - other) & guards == guards:
@@ -110,19 +164,56 @@ class Fields:
 
     def least(self, numbers):
         """The integers of the least ones of these patterns, ascending."""
-        found = []
-        for number in sorted(numbers):
-            if not self.is_above_any(number, found):
-                found.append(number)
-        return found
+        basis = Basis(self)
+        basis.keep_least(numbers)
+        return basis.lowest
 
     def ahead(self, step, number):
         """The integer of the pattern ahead of a pattern by a step, or None."""
         if number & step.wrong:
             return None
-        guarded = ((number & ~step.moved) | self._guards) - step.goals
+        guarded = ((number & ~step.moved) | self.guards) - step.goals
         kept = guarded & self._shared_guards
         return (guarded & ((kept - (kept >> self._width)) | self._lone_bits)) + step.sources
+
+
+class Basis:
+    """Patterns, as integers, of which none is below another one, kept so that those below one are found soon."""
+
+    def __init__(self, fields):
+        self.lowest = []
+        self._fields = fields
+        # The patterns that ask for the same of agents stand together. There are few sets of agents to ask for.
+        self._rows = {}
+        self._masks = []
+
+    def is_above_any(self, number):
+        """Whether the pattern with this integer has one of the kept ones below it."""
+        guards = self._fields.guards
+        guarded = number | guards
+        for mask in self._masks:
+            for other in self._rows.get(number & mask, ()):
+                if (guarded - other) & guards == guards:
+                    return True
+        return False
+
+    def keep(self, number):
+        """Keep a pattern."""
+        self.lowest.append(number)
+        lone = self._fields.lone_part(number)
+        if lone not in self._rows:
+            self._rows[lone] = []
+            mask = self._fields.agents_bits(number)
+            if mask not in self._masks:
+                self._masks.append(mask)
+        self._rows[lone].append(number)
+
+    def keep_least(self, numbers):
+        """Keep the least ones of some patterns, if no kept one is above one of them."""
+        # No later one is below an earlier one, as the integers ascend.
+        for number in sorted(numbers):
+            if not self.is_above_any(number):
+                self.keep(number)
 
 
 class Step:
@@ -147,8 +238,11 @@ class Step:
 
 def plain_step(system, fields, name):
     """The step of an action between the places of patterns."""
-    moves = system[name].moves
-    return Step(fields, name, [move[:2] for move in moves], [(owner, goal) for owner, _, goal in moves])
+    if name not in fields.known_steps:
+        moves = system[name].moves
+        sources, goals = [move[:2] for move in moves], [(owner, goal) for owner, _, goal in moves]
+        fields.known_steps[name] = Step(fields, name, sources, goals)
+    return fields.known_steps[name]
 
 
 def _places(owners, ends):
@@ -157,16 +251,9 @@ def _places(owners, ends):
     return {place: True for place in sorted(found)}
 
 
-def _are_tuples(value):
-    """Whether the value is a tuple of tuples."""
-    return isinstance(value, tuple) and all([isinstance(entry, tuple) for entry in value])
-
-
 def _is_place(places, value):
     """Whether the tuple is one of the places."""
-    return all([isinstance(part, str) for part in value]) and value in places
-
-
-def _is_number(value):
-    """Whether the value is a number that a pattern can ask for."""
-    return is_integer(value) and value >= 1
+    for part in value:
+        if not isinstance(part, str):
+            return False
+    return value in places

@@ -2,7 +2,7 @@
 
 from groupclocks.base.checks import check_action_name, check_system
 from groupclocks.base.systems import MAX_SHARED
-from groupclocks.cover.fields import Fields, are_there, greatest_number, plain_places, plain_step
+from groupclocks.cover.fields import are_there, greatest_number, plain_places, plain_step
 from groupclocks.errors import InvalidOperation
 from groupclocks.runs.runs import check_run
 
@@ -12,7 +12,7 @@ MAX_TARGET = 40
 def is_pattern(system, value):
     """Whether the value is a pattern of the system."""
     check_system(system)
-    return plain_places(system).is_pattern(value)
+    return plain_places(system).has_pattern(value)
 
 
 def is_target(system, value):
@@ -71,7 +71,8 @@ def pattern_ahead(system, name, pattern):
     check_system(system)
     check_action_name(system, name)
     _check_pattern(system, pattern)
-    fields = Fields(plain_places(system), greatest_number((pattern, needs_of(system, name))) + MAX_SHARED)
+    # The needs of an action ask for at most so many members more.
+    fields = plain_places(system).fields_for(greatest_number((pattern,)) + MAX_SHARED)
     number = fields.ahead(plain_step(system, fields, name), fields.number_of(pattern))
     return None if number is None else fields.pattern_of(number)
 
@@ -80,9 +81,9 @@ def least_patterns(system, patterns):
     """The patterns that no other one of them is below, ascending."""
     check_system(system)
     places = plain_places(system)
-    if not isinstance(patterns, tuple) or not all([places.is_pattern(pattern) for pattern in patterns]):
+    if not isinstance(patterns, tuple) or not all([places.has_pattern(pattern) for pattern in patterns]):
         raise InvalidOperation("these are no patterns")
-    fields = Fields(places, greatest_number(patterns))
+    fields = places.fields_for(greatest_number(patterns))
     least = fields.least([fields.number_of(pattern) for pattern in patterns])
     return tuple(sorted([fields.pattern_of(number) for number in least]))
 

@@ -2,7 +2,7 @@
 
 from groupclocks.base.checks import is_ascending
 from groupclocks.base.systems import MAX_SHARED
-from groupclocks.cover.fields import Fields, greatest_number, plain_places, plain_step
+from groupclocks.cover.fields import greatest_number, plain_places, plain_step
 from groupclocks.cover.patterns import does_match, is_target, start_row
 from groupclocks.cover.search import Part, Walk, is_covered
 from groupclocks.errors import InvalidOperation, InvalidRun, TooMany
@@ -10,6 +10,9 @@ from groupclocks.runs.runs import is_numbers, run_or_none
 
 MAX_ROUND = 400
 MAX_CLOSED = 2000
+
+# How many searches are kept with a system.
+_MAX_KEPT = 64
 
 
 class Reach:
@@ -19,10 +22,11 @@ class Reach:
         _check_target(system, target)
         self._system = system
         self._target = target
-        # In each round, the patterns ahead ask for at most so many members more than those behind them.
-        self._fields = Fields(plain_places(system), greatest_number((target,)) + MAX_SHARED * (MAX_ROUND + 1))
-        self._part = Part(self._fields, MAX_ROUND)
-        self._rounds = _rounds(system, self._part, target)
+        kept = _kept_search(system, target)
+        if kept is None:
+            raise TooMany(MAX_ROUND)
+        self._part, self._rounds = kept
+        self._fields = self._part.fields
         # For each row of a pattern of the last round that can fit the start, such a pattern.
         self._starts = {self._row(number): number for number in self._part.fitting_start()}
         self._rows = _least_rows(list(self._starts))
@@ -99,7 +103,7 @@ class Reach:
         return start_row(self._system, self._fields.pattern_of(number))
 
     def __contains__(self, value):
-        if not plain_places(self._system).is_pattern(value):
+        if not self._fields.places.has_pattern(value):
             return False
         return self._fields.is_above_any(self._fields.number_of(value), self._rounds[-1])
 
@@ -119,7 +123,7 @@ def is_closed(system, target, value):
     places = plain_places(system)
     if not are_patterns(places, value):
         return False
-    fields = Fields(places, greatest_number((target, *value)) + MAX_SHARED)
+    fields = places.fields_for(greatest_number((target, *value)) + MAX_SHARED)
     numbers = [fields.number_of(pattern) for pattern in value]
     steps = [plain_step(system, fields, name) for name in system.names]
     return fields.is_above_any(fields.number_of(target), numbers) and is_covered(fields, steps, numbers)
@@ -140,7 +144,7 @@ def are_patterns(places, value):
     """Whether the value is an ascending tuple of patterns over these places, and not of too many."""
     if not isinstance(value, tuple) or len(value) > MAX_CLOSED:
         return False
-    return all([places.is_pattern(pattern) for pattern in value]) and is_ascending(value)
+    return all([places.has_pattern(pattern) for pattern in value]) and is_ascending(value)
 
 
 def can_any_fit(system, patterns):
@@ -153,6 +157,30 @@ def _check_target(system, target):
     """Raise an error if this is no target."""
     if not is_target(system, target):
         raise InvalidOperation("this is no target")
+
+
+def _kept_search(system, target):
+    """The part and the rounds of the search for a target, or None if a round has too many patterns.
+
+    Many questions about a system ask for the same few targets, so the latest searches are kept with it.
+    """
+    kept = system.notes.setdefault("searches", {})
+    if target not in kept:
+        if len(kept) >= _MAX_KEPT:
+            kept.clear()
+        kept[target] = _searched(system, target)
+    return kept[target]
+
+
+def _searched(system, target):
+    """The part and the rounds of a new search, or None."""
+    # In each round, the patterns ahead ask for at most so many members more than those behind them.
+    most = greatest_number((target,)) + MAX_SHARED * (MAX_ROUND + 1)
+    part = Part(plain_places(system).fields_for(most), MAX_ROUND)
+    try:
+        return part, _rounds(system, part, target)
+    except TooMany:
+        return None
 
 
 def _rounds(system, part, target):

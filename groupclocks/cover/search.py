@@ -1,5 +1,6 @@
 """The search for what leads to targets, backwards in rounds, and runs that are made from what it finds."""
 
+from groupclocks.cover.fields import Basis
 from groupclocks.errors import TooMany
 from groupclocks.runs.runs import Run
 
@@ -14,24 +15,33 @@ class Part:
         self.lowest = []
         # Those of the last round that are new in it: only from them can more patterns come.
         self.fresh = []
+        self._basis = Basis(fields)
         # For each pattern that was once kept, the step to another one, and that one; None where a way ends.
         self._origins = {}
         self._seen = {}
 
     def take(self, found):
         """Begin a round with these patterns, a dict from integers to origins, besides the kept ones."""
-        fields, fresh = self.fields, []
+        fresh = Basis(self.fields)
         # No later one is below an earlier one, as the integers ascend.
-        for number in sorted(found):
-            if number in self._seen:
-                continue
+        for number in sorted([number for number in found if number not in self._seen]):
             self._seen[number] = True
-            if not fields.is_above_any(number, self.lowest) and not fields.is_above_any(number, fresh):
-                fresh.append(number)
+            if not self._basis.is_above_any(number) and not fresh.is_above_any(number):
+                fresh.keep(number)
                 self._origins[number] = found[number]
-                if len(fresh) > self.limit:
+                if len(fresh.lowest) > self.limit:
                     raise TooMany(self.limit)
-        self.lowest = [number for number in self.lowest if not fields.is_above_any(number, fresh)] + fresh
+        self._renew([number for number in self.lowest if not fresh.is_above_any(number)], fresh.lowest)
+
+    def _renew(self, old, fresh):
+        """Begin a round with these old patterns and these new ones, of which none is below another one."""
+        if len(old) < len(self.lowest):
+            self._basis = Basis(self.fields)
+            for number in old:
+                self._basis.keep(number)
+        for number in fresh:
+            self._basis.keep(number)
+        self.lowest = old + fresh
         self.fresh = fresh
 
     def found_ahead(self, steps):
@@ -62,16 +72,17 @@ class Part:
 
 def is_covered(fields, steps, numbers):
     """Whether each pattern ahead of one of these by a step, if there is one, has one of them below it."""
-    least = fields.least(numbers)
-    covered = {number: True for number in least}
+    basis = Basis(fields)
+    basis.keep_least(numbers)
+    covered = {number: True for number in basis.lowest}
     # What holds for the least ones holds for the others: what is ahead of them has what is ahead of these below it.
-    for number in least:
+    for number in basis.lowest:
         for step in steps:
             if number & step.useful and not number & step.wrong:
                 found = fields.ahead(step, number)
-                covered[found] = found in covered or fields.is_above_any(found, least)
-                if not covered[found]:
+                if found not in covered and not basis.is_above_any(found):
                     return False
+                covered[found] = True
     return True
 
 

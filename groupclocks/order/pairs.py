@@ -4,6 +4,7 @@ from groupclocks.base.checks import check_action_name, check_system
 from groupclocks.cover.patterns import needs_of_both, shared_agents
 from groupclocks.cover.reach import Reach, is_certificate
 from groupclocks.errors import InvalidOperation
+from groupclocks.order.partings import Partings
 from groupclocks.runs.runs import parts_of
 
 
@@ -21,6 +22,8 @@ class Order:
         self._concurrent = tuple([pair for pair in pairs
                                   if pair in self._reaches and self._reaches[pair].is_reachable])
         self._ordered = tuple([pair for pair in pairs if pair not in self._concurrent])
+        self._known = {pair: pair in self._ordered for pair in pairs}
+        self.partings = Partings(names, [self._foe_bits(name) for name in names])
 
     @property
     def system(self):
@@ -39,7 +42,7 @@ class Order:
 
     def is_ordered(self, one, other):
         """Whether two actions are ordered."""
-        return self._pair(one, other) in self._ordered
+        return self._known[self._pair(one, other)]
 
     def least_members(self, one, other):
         """The least number of members in all with which two actions can be concurrent, or None."""
@@ -62,6 +65,10 @@ class Order:
         first = _event_besides(run, one, [])
         second = _event_besides(run, other, [who for who, _, _ in parts_of(self._system, first)])
         return run + first + second
+
+    def _foe_bits(self, name):
+        """The bits of the indices of the actions that one is not ordered with."""
+        return sum([1 << at for at, other in enumerate(self._system.names) if not self.is_ordered(name, other)])
 
     def _pair(self, one, other):
         """The pair of two names of actions, with the lesser one first."""

@@ -13,7 +13,7 @@ def is_event(system, value):
     check_system(system)
     if not isinstance(value, tuple) or len(value) != 2 or not is_action_name(system, value[0]):
         return False
-    return _are_members(_shared_moves(system, value[0]), value[1])
+    return _are_numbers(value[1]) and system.plan(value[0]).are_members(value[1])
 
 
 def is_numbers(system, value):
@@ -41,32 +41,27 @@ def run_or_none(system, numbers, events):
 def parts_of(system, event):
     """The triples (participant, source, target) of an event, one for each move of its action."""
     name, members = event
-    agents = system.agents
-    parts = []
-    taken = 0
-    for owner, source, goal in system[name].moves:
-        if owner in agents:
-            parts.append(((owner, 0), source, goal))
-        else:
-            parts.append(((owner, members[taken]), source, goal))
-            taken = taken + 1
-    return parts
+    return system.plan(name).parts_with(members)
 
 
 class Run:
     """Events of a system with so many members, each of them possible behind the earlier ones. It never changes."""
 
     def __init__(self, system, numbers, events=()):
-        if not is_numbers(system, numbers) or not _are_events(system, numbers, events):
+        parts = _parts_of_all(system, numbers, events) if is_numbers(system, numbers) else None
+        if parts is None:
             raise InvalidRun("there is no such run")
         if len(events) > MAX_EVENTS:
             raise TooMany(MAX_EVENTS)
         self._system = system
         self._numbers = numbers
         self._events = events
-        # The states and the latest events of the participants, and for each event its past: the bits of the events
-        # before it.
-        self._states, self._latest, self._pasts = _played(system, _start_states(system, numbers), {}, (), events)
+        self._parts = parts
+        self._states = _states_behind(_start_states(system, numbers), parts, 0)
+        # The latest events of the participants, and for each event its past: the bits of the events before it. They
+        # are worked out when they are asked for.
+        self._latest = None
+        self._pasts = None
 
     @property
     def system(self):
@@ -84,6 +79,11 @@ class Run:
         return self._events
 
     @property
+    def parts(self):
+        """For each event its triples (participant, source, target), one for each move of its action."""
+        return self._parts
+
+    @property
     def finals(self):
         """The dict from the participants to their states at the end."""
         return {who: self._states[who] for who in self._states}
@@ -91,18 +91,19 @@ class Run:
     def participants(self, index):
         """The participants of an event, ascending."""
         self._check_index(index)
-        return tuple(sorted([who for who, _, _ in parts_of(self._system, self._events[index])]))
+        return tuple(sorted([who for who, _, _ in self._parts[index]]))
 
     def past(self, index):
         """The indices of the events before an event, ascending."""
         self._check_index(index)
-        return tuple([at for at in range(index) if self._pasts[index] >> at & 1])
+        past = self._known_pasts()[index]
+        return tuple([at for at in range(index) if past >> at & 1])
 
     def is_before(self, one, other):
         """Whether an event is before another one."""
         self._check_index(one)
         self._check_index(other)
-        return self._pasts[other] >> one & 1 == 1
+        return self._known_pasts()[other] >> one & 1 == 1
 
     def is_concurrent(self, one, other):
         """Whether two different events are concurrent."""
@@ -115,7 +116,7 @@ class Run:
         for owner, number in self._states:
             rooms.setdefault((owner, self._states[owner, number]), []).append(number)
         for action in self._system.actions:
-            name, moves = action.called, _shared_moves(self._system, action.called)
+            name, moves = action.called, self._system.plan(action.called).shared
             if all([move[:2] in rooms for move in action.moves]):
                 for members in _each_choice(moves, rooms, ()):
                     yield name, members
@@ -136,36 +137,43 @@ class Run:
 
     def each_order(self):
         """All orders in which the events make a run where each has the same past, one by one, ascending."""
-        many = len(self._events)
-        order = []
-        tried = 0
-        if many == 0:
-            yield ()
-        waits, leads = _links(self._system, self._events)
-        # An event waits for so many others; -1 says that it has its place in the order already.
-        while tried < many or order:
-            if tried == many:
-                tried = order.pop()
-                waits[tried] = 0
-                for later in leads[tried]:
-                    waits[later] += 1
-                tried += 1
-            elif waits[tried] == 0:
-                order.append(tried)
-                waits[tried] = -1
-                for later in leads[tried]:
+        waits, leads = _links(self._parts)
+        # The bits of the events that wait for no other one and have no place in the order yet.
+        ready = sum([1 << index for index, number in enumerate(waits) if number == 0])
+        order, least, is_over = [], 0, False
+        while not is_over:
+            if len(order) == len(waits):
+                yield tuple(order)
+            rest = ready >> least
+            if rest:
+                taken = least + (rest & -rest).bit_length() - 1
+                order.append(taken)
+                ready = ready ^ 1 << taken
+                for later in leads[taken]:
                     waits[later] -= 1
-                tried = 0 if len(order) < many else many
-                if len(order) == many:
-                    yield tuple(order)
+                    ready = ready if waits[later] else ready | 1 << later
+                least = 0
+            elif order:
+                taken = order.pop()
+                for later in leads[taken]:
+                    ready = ready if waits[later] else ready ^ 1 << later
+                    waits[later] += 1
+                ready = ready | 1 << taken
+                least = taken + 1
             else:
-                tried += 1
+                is_over = True
 
     def is_same(self, value):
         """Whether the value is a run in which each participant takes part in equal events in the same order."""
         if not isinstance(value, Run) or self._system != value._system or self._numbers != value._numbers:
             return False
-        return _histories(self._system, self._events) == _histories(value._system, value._events)
+        return _histories(self._events, self._parts) == _histories(value._events, value._parts)
+
+    def _known_pasts(self):
+        """For each event its past, as bits."""
+        if self._pasts is None:
+            self._latest, self._pasts = _pasts_behind({}, (), self._parts)
+        return self._pasts
 
     def _check_index(self, index):
         """Raise an error if this is not the index of an event."""
@@ -176,8 +184,8 @@ class Run:
         """Whether the value is an ascending tuple of indices that has with each event its past."""
         if not isinstance(value, tuple) or not all([is_index(index, len(self._events)) for index in value]):
             return False
-        kept = sum([1 << index for index in value])
-        return is_ascending(value) and not any([self._pasts[index] & ~kept for index in value])
+        kept, pasts = sum([1 << index for index in value]), self._known_pasts()
+        return is_ascending(value) and not any([pasts[index] & ~kept for index in value])
 
     def __getitem__(self, index):
         self._check_index(index)
@@ -201,29 +209,26 @@ class Run:
             raise InvalidOperation("this is no event whose members are there")
         if len(self._events) >= MAX_EVENTS:
             raise TooMany(MAX_EVENTS)
-        states, latest, pasts = _played(self._system, self._states, self._latest, self._pasts, (other,))
+        parts = (parts_of(self._system, other),)
+        states = _states_behind(self._states, parts, len(self._events))
         # Only the new event is played: a run that is put together event by event is not played again for each.
         grown = Run(self._system, self._numbers)
         grown._events = self._events + (other,)
+        grown._parts = self._parts + parts
         grown._states = states
-        grown._latest = latest
-        grown._pasts = pasts
+        if self._pasts is not None:
+            grown._latest, grown._pasts = _pasts_behind(self._latest, self._pasts, parts)
         return grown
 
 
-def _shared_moves(system, name):
-    """The moves of pools in an action."""
-    pools = system.pools
-    return [move for move in system[name].moves if move[0] in pools]
-
-
-def _are_members(moves, value):
-    """Whether the value has a number for each of these moves of pools, as the members of an event have them."""
-    if not isinstance(value, tuple) or len(value) != len(moves):
+def _are_numbers(value):
+    """Whether the value is a tuple of numbers of members that a run can have."""
+    if not isinstance(value, tuple):
         return False
-    if not all([is_integer(number) and 0 <= number < MAX_MEMBERS for number in value]):
-        return False
-    return all([_can_follow(moves, value[:at], number) for at, number in enumerate(value)])
+    for number in value:
+        if not isinstance(number, int) or isinstance(number, bool) or not 0 <= number < MAX_MEMBERS:
+            return False
+    return True
 
 
 def _can_follow(moves, chosen, number):
@@ -252,13 +257,27 @@ def _is_event_there(system, numbers, value):
     """Whether the value is an event whose members are among so many."""
     if not is_event(system, value):
         return False
-    there = {pool: number for pool, number in zip(system.pools, numbers)}
-    return all([owner not in there or number < there[owner] for (owner, number), _, _ in parts_of(system, value)])
+    return all([number < numbers[at] for number, at in zip(value[1], system.plan(value[0]).places)])
 
 
-def _are_events(system, numbers, value):
-    """Whether the value is a tuple of events whose members are among so many."""
-    return isinstance(value, tuple) and all([_is_event_there(system, numbers, event) for event in value])
+def _parts_of_all(system, numbers, value):
+    """The parts of each of these events; None if this is no tuple of events whose members are among so many."""
+    if not isinstance(value, tuple):
+        return None
+    known = {}
+    found = []
+    for event in value:
+        # Equal events have equal parts, but not all that is equal to an event is one, or can be a key.
+        if not isinstance(event, tuple) or len(event) != 2 or not isinstance(event[0], str):
+            return None
+        if not _are_numbers(event[1]):
+            return None
+        if event not in known:
+            if not _is_event_there(system, numbers, event):
+                return None
+            known[event] = parts_of(system, event)
+        found.append(known[event])
+    return tuple(found)
 
 
 def _start_states(system, numbers):
@@ -269,43 +288,48 @@ def _start_states(system, numbers):
     return {(owner, at): system.states(owner)[0] for owner in sorted(many) for at in range(many[owner])}
 
 
-def _played(system, states, latest, pasts, events):
-    """The states and latest events of the participants, and the pasts, behind some more events."""
-    new_states = {who: states[who] for who in states}
+def _states_behind(states, rows, index):
+    """The states of the participants behind events with these parts, of which the first one has this index."""
+    found = {who: states[who] for who in states}
+    for at, parts in enumerate(rows):
+        for who, source, goal in parts:
+            if found[who] != source:
+                raise NotPossible(index + at)
+            found[who] = goal
+    return found
+
+
+def _pasts_behind(latest, pasts, rows):
+    """The latest events of the participants and the pasts of all events, behind some more with these parts."""
     new_latest = {who: latest[who] for who in latest}
     new_pasts = list(pasts)
-    for event in events:
-        index = len(new_pasts)
-        past = 0
-        for who, source, goal in parts_of(system, event):
-            if new_states[who] != source:
-                raise NotPossible(index)
+    for parts in rows:
+        index, past = len(new_pasts), 0
+        for who, _, _ in parts:
             if who in new_latest:
                 past = past | new_pasts[new_latest[who]] | 1 << new_latest[who]
-            new_states[who] = goal
             new_latest[who] = index
         new_pasts.append(past)
-    return new_states, new_latest, tuple(new_pasts)
+    return new_latest, tuple(new_pasts)
 
 
-def _links(system, events):
+def _links(rows):
     """For each event, how many events its participants come from at once, and which events they go to at once."""
-    waits, leads, latest = [], [[] for _ in events], {}
-    for index, event in enumerate(events):
-        people = [who for who, _, _ in parts_of(system, event)]
-        sources = sorted({latest[who] for who in people if who in latest})
+    waits, leads, latest = [], [[] for _ in rows], {}
+    for index, parts in enumerate(rows):
+        sources = sorted({latest[who] for who, _, _ in parts if who in latest})
         waits.append(len(sources))
         for source in sources:
             leads[source].append(index)
-        for who in people:
+        for who, _, _ in parts:
             latest[who] = index
     return waits, leads
 
 
-def _histories(system, events):
+def _histories(events, rows):
     """The dict from the participants of some events to those that each takes part in, in order."""
     found = {}
-    for event in events:
-        for who, _, _ in parts_of(system, event):
+    for event, parts in zip(events, rows):
+        for who, _, _ in parts:
             found.setdefault(who, []).append(event)
     return found
