@@ -30,6 +30,19 @@ FUNCTIONS = {
         "fewest_groups": "(order, names)", "how_many": "(order, names)", "each_partition": "(order, names)",
         "parted_run": "(order, names)",
     },
+    "groupclocks.past.always": {
+        "is_always": "(system, names, other)", "is_never": "(system, names, other)",
+        "always_certificate": "(system, names, other)", "never_certificate": "(system, names, other)",
+        "is_always_certificate": "(system, names, other, value)",
+        "is_never_certificate": "(system, names, other, value)",
+    },
+    "groupclocks.past.repairs": {
+        "least_repairs": "(system, one, other)", "least_blocks": "(system, target)",
+        "is_repair": "(system, one, other, value)", "is_block": "(system, target, value)",
+        "repair_certificate": "(system, one, other, names)", "block_certificate": "(system, target, names)",
+        "is_repair_certificate": "(system, one, other, names, value)",
+        "is_block_certificate": "(system, target, names, value)",
+    },
 }
 CONSTANTS = {
     "groupclocks.base.words": {"MAX_LETTERS": 8, "MAX_NAMES": 16},
@@ -41,6 +54,8 @@ CONSTANTS = {
     "groupclocks.cover.reach": {"MAX_ROUND": 400, "MAX_CLOSED": 2000},
     "groupclocks.order.groups": {"MAX_ASKED": 12},
     "groupclocks.clocks.watch": {"TAGS": ("fresh", "behind", "told")},
+    "groupclocks.clocks.carriers": {"MAX_QUESTION": 6},
+    "groupclocks.past.repairs": {"MAX_OTHERS": 10, "MAX_TAKEN": 3},
 }
 ERRORS = {
     "ClockError": None, "InvalidName": None, "InvalidAction": None, "InvalidSystem": None, "InvalidRun": None,
@@ -102,6 +117,19 @@ CLASSES = {
             {"tags": "(self, run, index)", "is_pattern": "(self, value)", "is_match": "(self, run, index, pattern)",
              "ahead": "(self, name, pattern)", "first": "(self, name, pattern)", "certificate": "(self, targets)",
              "is_certificate": "(self, targets, value)", "__eq__": None, "__str__": "(self)"},
+        ),
+    },
+    "groupclocks.clocks.carriers": {
+        "Carriers": (
+            "(order, group, asked)", ("system", "group", "asked", "question", "targets"),
+            {"is_enough": "(self, names)", "certificate": "(self, names)", "is_certificate": "(self, names, value)",
+             "least_sets": "(self)", "greatest_sets": "(self)", "__eq__": None, "__str__": "(self)"},
+        ),
+    },
+    "groupclocks.past.always": {
+        "Past": (
+            "(system)", ("system", "always", "never", "idle"),
+            {"says": "(self, one, other)", "__eq__": None, "__str__": "(self)"},
         ),
     },
 }

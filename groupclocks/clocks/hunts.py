@@ -9,77 +9,137 @@ from groupclocks.cover.search import Part, Walk, is_covered
 from groupclocks.errors import TooMany
 
 
-class Hunt:
-    """The rounds of patterns for some targets: the early ones ahead of the watched event, the late ones behind it."""
+# How many searches are kept with a system.
+_MAX_KEPT = 64
 
-    def __init__(self, watch, targets):
-        self._watch = watch
-        self._system = watch.system
+
+class Lates:
+    """The rounds of the late patterns, from which events behind the watched one lead to some targets."""
+
+    def __init__(self, system, barred, carriers, targets):
+        places = tagged_places(system)
         # In each round, the patterns ahead ask for at most so many members more than those behind them.
-        most = greatest_number(targets) + MAX_SHARED * (MAX_ROUND + 1)
-        places = tagged_places(watch.system)
-        self._early = Part(plain_places(watch.system).fields_for(most), MAX_ROUND)
-        self._late = Part(places.fields_for(most), MAX_ROUND)
-        barring = [place for place in [*places.lone, *places.shared] if place[2] == BEHIND]
-        self._behind_bits = sum([self._late.fields.bits(place) for place in barring])
+        self.most = greatest_number(targets) + MAX_SHARED * (MAX_ROUND + 1)
+        self.fields = places.fields_for(self.most)
+        self._part = Part(self.fields, MAX_ROUND)
+        # For each round up to the last one, how many patterns it has, and those that are new in it and can match just
+        # behind the watched event, when nobody has the tag "behind", with their integers.
+        self.sizes = []
+        self.firsts = []
+        behind = [place for place in [*places.lone, *places.shared] if place[2] == BEHIND]
+        self._behind_bits = sum([self.fields.bits(place) for place in behind])
+        allowed = [name for name in system.names if name not in barred]
+        self._go_round(steps_of(system, allowed, carriers, self.fields), targets)
+
+    def patterns(self):
+        """The patterns of the last round, ascending."""
+        return self._part.patterns()
+
+    def way(self, number):
+        """The steps from a pattern to a target, and the target."""
+        steps, end = self._part.way(number)
+        return steps, self.fields.pattern_of(end)
+
+    def _go_round(self, steps, targets):
+        """Go through the rounds up to the last one."""
+        part = self._part
+        part.take({self.fields.number_of(target): None for target in targets})
+        while part.fresh:
+            if len(self.sizes) > MAX_ROUND or len(part.lowest) > MAX_ROUND:
+                raise TooMany(MAX_ROUND)
+            self.sizes.append(len(part.lowest))
+            numbers = [number for number in part.fresh if not number & self._behind_bits]
+            self.firsts.append([(number, self.fields.pattern_of(number)) for number in numbers])
+            part.take(part.found_ahead(steps))
+
+
+class Hunt:
+    """The search, backwards in rounds, for a watched run that matches one of some targets."""
+
+    def __init__(self, system, starts, late):
+        self._system = system
+        self._starts = starts
+        self._late = late
+        self._early = Part(plain_places(system).fields_for(late.most), MAX_ROUND)
         # For each early pattern from which the watched event leads on, its action and the late pattern behind it.
         self._crossings = {}
-        self._go_round(targets)
+        self._go_round()
 
-    def certificate(self):
-        """A closed pair that bars the targets, or else a watched run that matches one of them."""
-        starts = self._early.fitting_start()
-        if not starts:
-            return "closed", self._early.patterns(), self._late.patterns()
-        rows = {number: start_row(self._system, self._early.fields.pattern_of(number)) for number in starts}
-        start = min(starts, key=lambda one: sum(rows[one]))
-        run, index = self._run(start, rows[start])
-        return "run", run.numbers, run.events, index
+    def is_met(self):
+        """Whether some watched run matches one of the targets."""
+        return len(self._early.fitting_start()) > 0
 
-    def _go_round(self, targets):
+    def closed_pair(self):
+        """The early and the late patterns, which are closed."""
+        return self._early.patterns(), self._late.patterns()
+
+    def way(self):
+        """Such a run with as few members as possible, as a walk, with its index and the target; there must be one."""
+        fields = self._early.fields
+        rows = {number: start_row(self._system, fields.pattern_of(number)) for number in self._early.fitting_start()}
+        start = min(list(rows), key=lambda one: sum(rows[one]))
+        before, crossing = self._early.way(start)
+        name, number = self._crossings[crossing]
+        walk = Walk(self._system, rows[start], (FRESH,))
+        for step in before:
+            walk.go(step.action, with_tag(step.befores, FRESH), with_tag(step.behinds, FRESH))
+        watched = plain_step(self._system, fields, name)
+        walk.go(name, with_tag(watched.befores, FRESH), with_tag(watched.behinds, TOLD))
+        behind, target = self._late.way(number)
+        for step in behind:
+            walk.go(step.action, step.befores, step.behinds)
+        return walk, len(before), target
+
+    def _go_round(self):
         """Go through the rounds up to the last one."""
         early, late = self._early, self._late
-        early_steps = plain_steps(self._system, early.fields)
-        late_steps = allowed_steps(self._watch, late.fields)
-        late.take({late.fields.number_of(target): None for target in targets})
+        steps = plain_steps(self._system, early.fields)
         at = 0
-        while early.fresh or late.fresh:
-            if at > MAX_ROUND or len(early.lowest) + len(late.lowest) > MAX_ROUND:
+        while early.fresh or at < len(late.sizes):
+            many = late.sizes[at] if at < len(late.sizes) else late.sizes[-1]
+            if at > MAX_ROUND or len(early.lowest) + many > MAX_ROUND:
                 raise TooMany(MAX_ROUND)
-            found = early.found_ahead(early_steps)
-            for number in self._found_ahead_of_watched():
-                found[number] = None
+            found = early.found_ahead(steps)
+            if at < len(late.sizes):
+                for number in self._found_ahead_of_watched(late.firsts[at]):
+                    found[number] = None
             early.take(found)
-            late.take(late.found_ahead(late_steps))
             at += 1
 
-    def _found_ahead_of_watched(self):
-        """The early patterns from which the watched event leads to one of the new late patterns."""
+    def _found_ahead_of_watched(self, firsts):
+        """The early patterns from which the watched event leads to one of these late patterns."""
         found = []
-        # Nobody has the tag "behind" just behind the watched event.
-        numbers = [number for number in self._late.fresh if not number & self._behind_bits]
-        for number in numbers:
-            pattern = self._late.fields.pattern_of(number)
-            for name in self._watch.starts:
+        for number, pattern in firsts:
+            for name in self._starts:
                 first = pattern_ahead_of_watched(self._system, name, pattern)
                 if first is not None:
                     found.append(self._early.fields.number_of(first))
                     self._crossings.setdefault(found[-1], (name, number))
         return found
 
-    def _run(self, start, numbers):
-        """The watched run from the start that matches this early pattern, and the index of its watched event."""
-        before, crossing = self._early.way(start)
-        name, number = self._crossings[crossing]
-        walk = Walk(self._system, numbers, (FRESH,))
-        for step in before:
-            walk.go(step.action, with_tag(step.befores, FRESH), with_tag(step.behinds, FRESH))
-        watched = plain_step(self._system, self._early.fields, name)
-        walk.go(name, with_tag(watched.befores, FRESH), with_tag(watched.behinds, TOLD))
-        behind, _ = self._late.way(number)
-        for step in behind:
-            walk.go(step.action, step.befores, step.behinds)
-        return walk.run(), len(before)
+
+def hunt_of(watch, targets):
+    """The search for a watched run of a watch that matches one of some targets.
+
+    Many watches of a system ask for the same targets behind the watched event, so the latest searches are kept with it.
+    """
+    system, key = watch.system, (watch.barred, watch.carriers, targets)
+    kept = system.notes.setdefault("lates", {})
+    if key not in kept:
+        if len(kept) >= _MAX_KEPT:
+            kept.clear()
+        kept[key] = _lates_or_none(system, *key)
+    if kept[key] is None:
+        raise TooMany(MAX_ROUND)
+    return Hunt(system, watch.starts, kept[key])
+
+
+def _lates_or_none(system, barred, carriers, targets):
+    """The rounds of the late patterns, or None if there are too many."""
+    try:
+        return Lates(system, barred, carriers, targets)
+    except TooMany:
+        return None
 
 
 def with_tag(places, tag):
@@ -92,10 +152,9 @@ def plain_steps(system, fields):
     return [plain_step(system, fields, name) for name in system.names]
 
 
-def allowed_steps(watch, fields):
-    """The steps of the actions that are not barred, with tags."""
-    allowed = [name for name in watch.system.names if name not in watch.barred]
-    return [step for name in allowed for step in tagged_steps(watch.system, fields, name, name in watch.carriers)]
+def steps_of(system, names, carriers, fields):
+    """The steps of these actions, with tags."""
+    return [step for name in names for step in tagged_steps(system, fields, name, name in carriers)]
 
 
 def is_closed_pair(watch, targets, early, late):
@@ -110,10 +169,11 @@ def is_closed_pair(watch, targets, early, late):
     numbers = [fields.number_of(pattern) for pattern in early]
     late_numbers = [late_fields.number_of(pattern) for pattern in late]
     firsts = [pattern_ahead_of_watched(system, name, pattern) for name in watch.starts for pattern in late]
+    allowed = [name for name in system.names if name not in watch.barred]
     return (are_all_above(late_fields, targets, late_numbers)
             and are_all_above(fields, [first for first in firsts if first is not None], numbers)
             and is_covered(fields, plain_steps(system, fields), numbers)
-            and is_covered(late_fields, allowed_steps(watch, late_fields), late_numbers))
+            and is_covered(late_fields, steps_of(system, allowed, watch.carriers, late_fields), late_numbers))
 
 
 def are_all_above(fields, patterns, numbers):

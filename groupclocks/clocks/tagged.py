@@ -1,7 +1,7 @@
 """Tags in watched runs, watched patterns, and what is ahead of them."""
 
 from groupclocks.cover.fields import Places, Step
-from groupclocks.cover.patterns import needs_of
+from groupclocks.cover.patterns import needs_of, pattern_at
 
 FRESH = "fresh"
 BEHIND = "behind"
@@ -55,7 +55,7 @@ def tagged_steps(system, fields, name, does_carry):
 def _new_steps(system, fields, name, does_carry):
     """The steps of an action, one for each row of tags."""
     found = []
-    for row in _tag_rows(system[name].moves):
+    for row in tag_rows(system[name].moves, ASCENDING):
         moves = list(zip(system[name].moves, row, tags_behind(row, does_carry)))
         befores = [(owner, source, tag) for (owner, source, _), tag, _ in moves]
         found.append(Step(fields, name, befores, [(owner, goal, tag) for (owner, _, goal), _, tag in moves]))
@@ -93,10 +93,25 @@ def _can_lead_members_to(moves, place, number):
     return tag == FRESH or (tag == TOLD and number <= len(goals))
 
 
-def _tag_rows(moves):
-    """The rows of tags for the participants of some moves; of rows that differ in equal moves only, one."""
+def tag_rows(moves, tags):
+    """The rows of ascending tags for the participants of some moves; of rows that differ in equal moves only, one."""
     rows = [()]
     for at, move in enumerate(moves):
         is_equal = at > 0 and moves[at - 1] == move
-        rows = [(*row, tag) for row in rows for tag in ASCENDING if not is_equal or row[-1] <= tag]
+        rows = [(*row, tag) for row in rows for tag in tags if not is_equal or row[-1] <= tag]
     return rows
+
+
+def tagged_needs(system, names, tags, wanted):
+    """The needs of some actions with each row of these ascending tags that has a wanted one.
+
+    Each of these watched patterns leads to the name of such an action and the places of its participants.
+    """
+    found = {}
+    for name in names:
+        moves = system[name].moves
+        for row in tag_rows(moves, tags):
+            places = [(owner, source, tag) for (owner, source, _), tag in zip(moves, row)]
+            if wanted in row:
+                found.setdefault(pattern_at(system, places), (name, places))
+    return found

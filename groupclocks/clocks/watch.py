@@ -2,7 +2,7 @@
 
 from groupclocks.base.checks import are_action_names, check_action_name, check_system, is_index
 from groupclocks.base.systems import MAX_SHARED
-from groupclocks.clocks.hunts import Hunt, is_closed_pair
+from groupclocks.clocks.hunts import hunt_of, is_closed_pair
 from groupclocks.clocks.tagged import (
     pattern_ahead_of_watched, tagged_places, tagged_steps, tagged_there, tags_at_end,
 )
@@ -91,7 +91,12 @@ class Watch:
     def certificate(self, targets):
         """A certificate that no watched run matches one of the targets, or that one does."""
         self._check_targets(targets)
-        return Hunt(self, targets).certificate()
+        hunt = hunt_of(self, targets)
+        if not hunt.is_met():
+            return "closed", *hunt.closed_pair()
+        walk, index, _ = hunt.way()
+        run = walk.run()
+        return "run", run.numbers, run.events, index
 
     def is_certificate(self, targets, value):
         """Whether the value is a certificate for the targets."""

@@ -53,7 +53,7 @@ def needs_of(system, name):
     """The pattern of the sources of an action."""
     check_system(system)
     check_action_name(system, name)
-    return _sum_of_sources(system, system[name].moves)
+    return pattern_at(system, [move[:2] for move in system[name].moves])
 
 
 def needs_of_both(system, one, other):
@@ -63,7 +63,7 @@ def needs_of_both(system, one, other):
     check_action_name(system, other)
     if shared_agents(system, one, other):
         return None
-    return _sum_of_sources(system, (*system[one].moves, *system[other].moves))
+    return pattern_at(system, [move[:2] for move in (*system[one].moves, *system[other].moves)])
 
 
 def pattern_ahead(system, name, pattern):
@@ -93,18 +93,18 @@ def shared_agents(system, one, other):
     return [owner for owner in system[one].owners if owner in system[other].owners and owner in system.agents]
 
 
+def pattern_at(system, places):
+    """The pattern that asks for a participant at each of these places, with tags or without them."""
+    agents = system.agents
+    lone = [place for place in places if place[0] in agents]
+    shared = {}
+    for place in places:
+        if place[0] not in agents:
+            shared[place] = shared.get(place, 0) + 1
+    return tuple(sorted(lone)), tuple([(*place, shared[place]) for place in sorted(shared)])
+
+
 def _check_pattern(system, pattern):
     """Raise an error if this is no pattern of the system."""
     if not is_pattern(system, pattern):
         raise InvalidOperation("this is no pattern")
-
-
-def _sum_of_sources(system, moves):
-    """The pattern that asks for a participant in the source of each of these moves."""
-    agents = system.agents
-    lone = [move[:2] for move in moves if move[0] in agents]
-    shared = {}
-    for owner, source, _ in moves:
-        if owner not in agents:
-            shared[owner, source] = shared.get((owner, source), 0) + 1
-    return tuple(sorted(lone)), tuple([(*place, shared[place]) for place in sorted(shared)])

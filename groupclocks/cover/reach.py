@@ -15,6 +15,61 @@ MAX_CLOSED = 2000
 _MAX_KEPT = 64
 
 
+class Rounds:
+    """The search, backwards in rounds, from where a target is reachable with some of the actions of a system."""
+
+    def __init__(self, system, names, target):
+        self._system = system
+        # In each round, the patterns ahead ask for at most so many members more than those behind them.
+        most = greatest_number((target,)) + MAX_SHARED * (MAX_ROUND + 1)
+        self.fields = plain_places(system).fields_for(most)
+        self._part = Part(self.fields, MAX_ROUND)
+        # The rounds up to the last one, as integers.
+        self.levels = []
+        self._go_round([plain_step(system, self.fields, name) for name in names], target)
+        # For each row of a pattern of the last round that can fit the start, such a pattern.
+        self._starts = {self._row(number): number for number in self._part.fitting_start()}
+        self.least_rows = _least_rows(list(self._starts))
+
+    def closed_patterns(self):
+        """The patterns of the last round, which is the least closed set."""
+        return _told_rounds(self.fields, self.levels[-1:])[0]
+
+    def run_from(self, row, numbers):
+        """A run that matches the target, with these numbers, which are not less than this one of the rows."""
+        steps, _ = self._part.way(self._starts[row])
+        walk = Walk(self._system, numbers)
+        for step in steps:
+            walk.go(step.action, step.befores, step.behinds)
+        return walk.run()
+
+    def run_of_fewest(self):
+        """A run that matches the target, with as few members as possible; there must be one."""
+        row = min(self.least_rows, key=sum)
+        return self.run_from(row, row)
+
+    def certificate(self):
+        """A certificate for the target."""
+        if not self.least_rows:
+            return "closed", self.closed_patterns()
+        run = self.run_of_fewest()
+        return "run", run.numbers, run.events
+
+    def _go_round(self, steps, target):
+        """Go through the rounds up to the last one."""
+        part = self._part
+        part.take({self.fields.number_of(target): None})
+        while part.fresh:
+            self.levels.append(part.lowest)
+            if len(self.levels) > MAX_ROUND + 1 or len(part.lowest) > MAX_ROUND:
+                raise TooMany(MAX_ROUND)
+            part.take(part.found_ahead(steps))
+
+    def _row(self, number):
+        """The row of the pattern with this integer."""
+        return start_row(self._system, self.fields.pattern_of(number))
+
+
 class Reach:
     """From where a target is reachable, and how. It never changes."""
 
@@ -22,14 +77,7 @@ class Reach:
         _check_target(system, target)
         self._system = system
         self._target = target
-        kept = _kept_search(system, target)
-        if kept is None:
-            raise TooMany(MAX_ROUND)
-        self._part, self._rounds = kept
-        self._fields = self._part.fields
-        # For each row of a pattern of the last round that can fit the start, such a pattern.
-        self._starts = {self._row(number): number for number in self._part.fitting_start()}
-        self._rows = _least_rows(list(self._starts))
+        self._found = rounds_of(system, system.names, target)
         self._told = None
 
     @property
@@ -46,87 +94,69 @@ class Reach:
     def rounds(self):
         """The rounds up to the last one."""
         if self._told is None:
-            self._told = _told_rounds(self._fields, self._rounds)
+            self._told = _told_rounds(self._found.fields, self._found.levels)
         return self._told
 
     @property
     def closed(self):
         """The last round, which is the least closed set."""
-        return _told_rounds(self._fields, self._rounds[-1:])[0]
+        return self._found.closed_patterns()
 
     @property
     def rows(self):
         """The least numbers of members with which the target is reachable, ascending."""
-        return self._rows
+        return self._found.least_rows
 
     @property
     def fewest(self):
         """The least number of members in all with which the target is reachable, or None."""
-        return min([sum(row) for row in self._rows], default=None)
+        return min([sum(row) for row in self._found.least_rows], default=None)
 
     @property
     def steps(self):
         """The least number of events with which the target is reachable, or None."""
-        for many, numbers in enumerate(self._rounds):
-            if any([self._fields.can_fit_start(number) for number in numbers]):
+        for many, numbers in enumerate(self._found.levels):
+            if any([self._found.fields.can_fit_start(number) for number in numbers]):
                 return many
         return None
 
     @property
     def is_reachable(self):
         """Whether some run matches the target."""
-        return len(self._rows) > 0
+        return len(self._found.least_rows) > 0
 
     def run(self, *, numbers=None):
         """A run that matches the target, with just these numbers, or with as few members as possible."""
         if numbers is not None and not is_numbers(self._system, numbers):
             raise InvalidRun("these are no numbers")
-        fitting = [row for row in self._rows if numbers is None or _is_row_below(row, numbers)]
+        fitting = [row for row in self.rows if numbers is None or _is_row_below(row, numbers)]
         if not fitting:
             raise InvalidOperation("no such run matches the target")
         row = min(fitting, key=sum)
-        steps, _ = self._part.way(self._starts[row])
-        walk = Walk(self._system, row if numbers is None else numbers)
-        for step in steps:
-            walk.go(step.action, step.befores, step.behinds)
-        return walk.run()
+        return self._found.run_from(row, row if numbers is None else numbers)
 
     def certificate(self):
         """A certificate for the target."""
-        if not self._rows:
-            return "closed", self.closed
-        run = self.run()
-        return "run", run.numbers, run.events
-
-    def _row(self, number):
-        """The row of the pattern with this integer."""
-        return start_row(self._system, self._fields.pattern_of(number))
+        return self._found.certificate()
 
     def __contains__(self, value):
-        if not self._fields.places.has_pattern(value):
-            return False
-        return self._fields.is_above_any(self._fields.number_of(value), self._rounds[-1])
+        fields = self._found.fields
+        return fields.places.has_pattern(value) and fields.is_above_any(fields.number_of(value), self._found.levels[-1])
 
     def __len__(self):
-        return len(self._rounds[-1])
+        return len(self._found.levels[-1])
 
     def __eq__(self, other):
         return isinstance(other, Reach) and self._system == other._system and self._target == other._target
 
     def __str__(self):
-        return f"reach of {len(self._rounds[-1])} patterns in {len(self._rounds) - 1} rounds"
+        return f"reach of {len(self._found.levels[-1])} patterns in {len(self._found.levels) - 1} rounds"
 
 
 def is_closed(system, target, value):
     """Whether the value is an ascending tuple of patterns that are closed for the target, and not too many."""
     _check_target(system, target)
-    places = plain_places(system)
-    if not are_patterns(places, value):
-        return False
-    fields = places.fields_for(greatest_number((target, *value)) + MAX_SHARED)
-    numbers = [fields.number_of(pattern) for pattern in value]
-    steps = [plain_step(system, fields, name) for name in system.names]
-    return fields.is_above_any(fields.number_of(target), numbers) and is_covered(fields, steps, numbers)
+    return are_closed(system, system.names, target, value)
 
 
 def is_certificate(system, target, value):
@@ -135,9 +165,41 @@ def is_certificate(system, target, value):
     if not isinstance(value, tuple) or len(value) not in (2, 3):
         return False
     if len(value) == 2:
-        return value[0] == "closed" and is_closed(system, target, value[1]) and not can_any_fit(system, value[1])
-    run = run_or_none(system, value[1], value[2]) if value[0] == "run" else None
-    return run is not None and does_match(run, target)
+        return is_closed_form(system, system.names, target, value)
+    return is_run_form(system, system.names, target, value)
+
+
+def is_closed_form(system, names, target, value):
+    """Whether the value is a certificate that the target is not reachable with these actions."""
+    if not isinstance(value, tuple) or len(value) != 2 or value[0] != "closed":
+        return False
+    return are_closed(system, names, target, value[1]) and not can_any_fit(system, value[1])
+
+
+def is_run_form(system, names, target, value):
+    """Whether the value is a certificate that the target is reachable with these actions."""
+    run = run_in_form(system, value)
+    if run is None or any([name not in names for name, _ in run.events]):
+        return False
+    return does_match(run, target)
+
+
+def run_in_form(system, value):
+    """The run of a value like a certificate of one, or None if there is none."""
+    if not isinstance(value, tuple) or len(value) != 3 or value[0] != "run":
+        return None
+    return run_or_none(system, value[1], value[2])
+
+
+def are_closed(system, names, target, value):
+    """Whether the value is an ascending tuple of patterns, not too many, that are closed with these actions alone."""
+    places = plain_places(system)
+    if not are_patterns(places, value):
+        return False
+    fields = places.fields_for(greatest_number((target, *value)) + MAX_SHARED)
+    numbers = [fields.number_of(pattern) for pattern in value]
+    steps = [plain_step(system, fields, name) for name in names]
+    return fields.is_above_any(fields.number_of(target), numbers) and is_covered(fields, steps, numbers)
 
 
 def are_patterns(places, value):
@@ -159,41 +221,27 @@ def _check_target(system, target):
         raise InvalidOperation("this is no target")
 
 
-def _kept_search(system, target):
-    """The part and the rounds of the search for a target, or None if a round has too many patterns.
+def rounds_of(system, names, target):
+    """The search for a target with some of the actions of a system.
 
     Many questions about a system ask for the same few targets, so the latest searches are kept with it.
     """
-    kept = system.notes.setdefault("searches", {})
-    if target not in kept:
+    kept = system.notes.setdefault("rounds", {})
+    if (names, target) not in kept:
         if len(kept) >= _MAX_KEPT:
             kept.clear()
-        kept[target] = _searched(system, target)
-    return kept[target]
+        kept[names, target] = _rounds_or_none(system, names, target)
+    if kept[names, target] is None:
+        raise TooMany(MAX_ROUND)
+    return kept[names, target]
 
 
-def _searched(system, target):
-    """The part and the rounds of a new search, or None."""
-    # In each round, the patterns ahead ask for at most so many members more than those behind them.
-    most = greatest_number((target,)) + MAX_SHARED * (MAX_ROUND + 1)
-    part = Part(plain_places(system).fields_for(most), MAX_ROUND)
+def _rounds_or_none(system, names, target):
+    """The search for a target, or None if there are too many patterns."""
     try:
-        return part, _rounds(system, part, target)
+        return Rounds(system, names, target)
     except TooMany:
         return None
-
-
-def _rounds(system, part, target):
-    """The rounds up to the last one, of integers, as the part finds them."""
-    steps = [plain_step(system, part.fields, name) for name in system.names]
-    part.take({part.fields.number_of(target): None})
-    rounds = []
-    while part.fresh:
-        rounds.append(part.lowest)
-        if len(rounds) > MAX_ROUND + 1 or len(part.lowest) > MAX_ROUND:
-            raise TooMany(MAX_ROUND)
-        part.take(part.found_ahead(steps))
-    return rounds
 
 
 def _told_rounds(fields, rounds):

@@ -62,8 +62,8 @@ class Order:
         if pair in self._ordered:
             raise InvalidOperation("the actions are ordered")
         run = self._reaches[pair].run()
-        first = _event_besides(run, one, [])
-        second = _event_besides(run, other, [who for who, _, _ in parts_of(self._system, first)])
+        first = event_at_end(run, one, [])
+        second = event_at_end(run, other, [who for who, _, _ in parts_of(self._system, first)])
         return run + first + second
 
     def _foe_bits(self, name):
@@ -114,7 +114,7 @@ def is_order_certificate(system, one, other, value):
     return value[1] in shared_agents(system, one, other)
 
 
-def _event_besides(run, name, others):
+def event_at_end(run, name, others):
     """An event of an action that is possible at the end of the run, and in which these participants have no part."""
     system, finals = run.system, run.finals
     members, taken = [], list(others)
