@@ -385,7 +385,8 @@ def changes_of(part):
             if isinstance(target, (ast.Attribute, ast.Subscript)) and isinstance(target.ctx, ast.Store):
                 if ast.unparse(target) != kept and not (isinstance(target.value, ast.Name) and target.value.id in own):
                     found.append(f"changes {ast.unparse(target)}")
-        if isinstance(inner, ast.AugAssign) and not (isinstance(inner.value, ast.Constant) and isinstance(inner.value.value, int)):
+        # Some classes have in-place operators, which a sign in place might call.
+        if isinstance(inner, ast.AugAssign):
             found.append(f"changes {ast.unparse(inner.target)} in place")
         if isinstance(inner, ast.Call) and isinstance(inner.func, ast.Attribute) and inner.func.attr in CHANGING:
             root = inner.func.value

@@ -43,6 +43,13 @@ FUNCTIONS = {
         "is_repair_certificate": "(system, one, other, names, value)",
         "is_block_certificate": "(system, target, names, value)",
     },
+    "groupclocks.project.project": {"fits_in": "(system, value)", "holds_in": "(system, value)"},
+    "groupclocks.text.texts": {
+        "write_system": "(system)", "write_run": "(run)", "write_pattern": "(system, pattern)",
+        "write_certificate": "(system, value)", "write_claim": "(system, claim)", "read_system": "(text)",
+        "read_run": "(system, text)", "read_pattern": "(system, text)", "read_certificate": "(system, text)",
+        "read_claim": "(system, text)",
+    },
 }
 CONSTANTS = {
     "groupclocks.base.words": {"MAX_LETTERS": 8, "MAX_NAMES": 16},
@@ -56,6 +63,8 @@ CONSTANTS = {
     "groupclocks.clocks.watch": {"TAGS": ("fresh", "behind", "told")},
     "groupclocks.clocks.carriers": {"MAX_QUESTION": 6},
     "groupclocks.past.repairs": {"MAX_OTHERS": 10, "MAX_TAKEN": 3},
+    "groupclocks.trace.tracer": {"MAX_TOGETHER": 3},
+    "groupclocks.project.project": {"MAX_CLAIMS": 20},
 }
 ERRORS = {
     "ClockError": None, "InvalidName": None, "InvalidAction": None, "InvalidSystem": None, "InvalidRun": None,
@@ -131,6 +140,28 @@ CLASSES = {
             "(system)", ("system", "always", "never", "idle"),
             {"says": "(self, one, other)", "__eq__": None, "__str__": "(self)"},
         ),
+    },
+    "groupclocks.trace.tracer": {
+        "Tracer": (
+            "(system, numbers, *, clocks=None)", ("record", "clocks", "told"),
+            {"add": "(self, event)", "__iadd__": None, "__getitem__": None, "__len__": "(self)", "__bool__": "(self)",
+             "__eq__": None, "__str__": "(self)", "stays": "(self, participant)", "can_meet": "(self, *wishes)",
+             "must_meet": "(self, *wishes)", "meeting": "(self, *wishes)", "parting": "(self, *wishes)",
+             "is_meeting": "(self, value, *wishes)", "is_parting": "(self, value, *wishes)",
+             "undo": "(self, *, many=1)", "trial": "(self)", "during": "(self, call)", "twin": "(self)"},
+        ),
+    },
+    "groupclocks.project.project": {
+        "Project": (
+            "(system)", ("system", "claims", "order", "turned"),
+            {"put": "(self, action)", "__iadd__": None, "drop": "(self, name)", "__isub__": None,
+             "pin": "(self, claim)", "unpin": "(self, claim)", "__getitem__": None, "__iter__": "(self)",
+             "__contains__": None, "__len__": "(self)", "__eq__": None, "__str__": "(self)",
+             "undo": "(self, *, many=1)", "trial": "(self)", "during": "(self, call)", "twin": "(self)"},
+        ),
+    },
+    "groupclocks.text.shell": {
+        "Shell": ("(text)", (), {"project": "(self)", "run": "(self, line)", "__call__": "(self, line)"}),
     },
 }
 

@@ -73,7 +73,8 @@ class Carriers:
         self._check_names(names)
         hunt = self._hunt(names)
         if not hunt.is_met():
-            return "closed", *hunt.closed_pair()
+            early, late = hunt.closed_pair()
+            return "closed", early, late
         walk, _, target = hunt.way()
         last, places = self._lasts[target]
         walk.go(last, places, places)

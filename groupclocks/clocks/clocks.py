@@ -96,7 +96,8 @@ class Clocks:
         stamps = []
         for (name, _), parts in zip(run.events, run.parts):
             people = [who for who, _, _ in parts]
-            stamp, behind = [], []
+            stamp = []
+            behind = []
             for at, group in enumerate(self._groups):
                 stamp.append(max([kept[who][at] for who in people]) + (1 if name in group else 0))
                 behind.append(name in group or name in carriers[at])

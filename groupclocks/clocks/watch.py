@@ -93,7 +93,8 @@ class Watch:
         self._check_targets(targets)
         hunt = hunt_of(self, targets)
         if not hunt.is_met():
-            return "closed", *hunt.closed_pair()
+            early, late = hunt.closed_pair()
+            return "closed", early, late
         walk, index, _ = hunt.way()
         run = walk.run()
         return "run", run.numbers, run.events, index

@@ -39,7 +39,8 @@ def never_certificate(system, names, other):
     _check(system, names, other)
     hunt = hunt_of(_watch(system, names), _targets(system, other))
     if not hunt.is_met():
-        return "closed", *hunt.closed_pair()
+        early, late = hunt.closed_pair()
+        return "closed", early, late
     walk, _, target = hunt.way()
     last, places = tagged_needs(system, (other,), (FRESH, TOLD), TOLD)[target]
     walk.go(last, places, places)

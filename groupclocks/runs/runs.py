@@ -93,17 +93,27 @@ class Run:
         self._check_index(index)
         return tuple(sorted([who for who, _, _ in self._parts[index]]))
 
+    def has_participant(self, who):
+        """Whether a pair of a string and an integer is a participant."""
+        return who in self._states
+
     def past(self, index):
         """The indices of the events before an event, ascending."""
         self._check_index(index)
-        past = self._known_pasts()[index]
+        past = self.past_bits()[index]
         return tuple([at for at in range(index) if past >> at & 1])
+
+    def past_bits(self):
+        """For each event its past, as the bits of the events in it."""
+        if self._pasts is None:
+            self._latest, self._pasts = _pasts_behind({}, (), self._parts)
+        return self._pasts
 
     def is_before(self, one, other):
         """Whether an event is before another one."""
         self._check_index(one)
         self._check_index(other)
-        return self._known_pasts()[other] >> one & 1 == 1
+        return self.past_bits()[other] >> one & 1 == 1
 
     def is_concurrent(self, one, other):
         """Whether two different events are concurrent."""
@@ -126,6 +136,19 @@ class Run:
         if not self._is_part(indices):
             raise InvalidOperation("these are no indices of events with all that is before them")
         return Run(self._system, self._numbers, tuple([self._events[index] for index in indices]))
+
+    def shortened(self, many):
+        """The run without its last events; it has at least so many."""
+        left = len(self._events) - many
+        states = {who: self._states[who] for who in self._states}
+        for parts in reversed(list(self._parts[left:])):
+            for who, source, _ in parts:
+                states[who] = source
+        shorter = Run(self._system, self._numbers)
+        shorter._events = self._events[:left]
+        shorter._parts = self._parts[:left]
+        shorter._states = states
+        return shorter
 
     def widened(self, numbers):
         """The run with more members."""
@@ -169,12 +192,6 @@ class Run:
             return False
         return _histories(self._events, self._parts) == _histories(value._events, value._parts)
 
-    def _known_pasts(self):
-        """For each event its past, as bits."""
-        if self._pasts is None:
-            self._latest, self._pasts = _pasts_behind({}, (), self._parts)
-        return self._pasts
-
     def _check_index(self, index):
         """Raise an error if this is not the index of an event."""
         if not is_index(index, len(self._events)):
@@ -184,7 +201,7 @@ class Run:
         """Whether the value is an ascending tuple of indices that has with each event its past."""
         if not isinstance(value, tuple) or not all([is_index(index, len(self._events)) for index in value]):
             return False
-        kept, pasts = sum([1 << index for index in value]), self._known_pasts()
+        kept, pasts = sum([1 << index for index in value]), self.past_bits()
         return is_ascending(value) and not any([pasts[index] & ~kept for index in value])
 
     def __getitem__(self, index):

@@ -1,0 +1,1 @@
+"""A project: a system, and claims about it that stay true."""

@@ -1,0 +1,1 @@
+"""A tracer, which records a run."""
