@@ -104,7 +104,7 @@ class Hunt:
                 for number in self._found_ahead_of_watched(late.firsts[at]):
                     found[number] = None
             early.take(found)
-            at += 1
+            at = at + 1
 
     def _found_ahead_of_watched(self, firsts):
         """The early patterns from which the watched event leads to one of these late patterns."""

@@ -140,7 +140,7 @@ class Watch:
     def _check_targets(self, targets):
         """Raise an error if these are no watched targets."""
         places = tagged_places(self._system)
-        if not isinstance(targets, tuple) or not all([places.has_pattern(target) for target in targets]):
+        if not isinstance(targets, tuple) or not places.have_patterns(targets):
             raise InvalidOperation("these are no watched patterns")
         if greatest_number(targets) > MAX_TARGET:
             raise InvalidOperation("a target asks for too many members")

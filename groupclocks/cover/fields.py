@@ -22,9 +22,27 @@ class Places:
 
     def has_pattern(self, value):
         """Whether the value is a pattern over these places."""
-        if not isinstance(value, tuple) or len(value) != 2:
-            return False
-        return self._are_lone(value[0]) and self._are_shared(value[1])
+        return self.have_patterns((value,))
+
+    def have_patterns(self, values):
+        """Whether each of the values is a pattern over these places."""
+        # Patterns that stand together have much in common, which need be looked at only once.
+        known_lone, known_place = (), ()
+        for value in values:
+            if not isinstance(value, tuple) or len(value) != 2:
+                return False
+            lone, shared = value
+            if not isinstance(shared, tuple) or not (lone == known_lone or self._are_lone(lone)):
+                return False
+            known_lone, earlier = lone, ()
+            for entry in shared:
+                if not isinstance(entry, tuple) or not entry or not _is_number(entry[-1]):
+                    return False
+                place = entry[:-1]
+                if not (place == known_place or _is_place(self.shared, place)) or place <= earlier:
+                    return False
+                known_place = earlier = place
+        return True
 
     def _are_lone(self, value):
         """Whether the value is an ascending tuple of places of different agents."""
@@ -35,22 +53,6 @@ class Places:
             if not isinstance(entry, tuple) or not _is_place(self.lone, entry) or entry[0] <= earlier:
                 return False
             earlier = entry[0]
-        return True
-
-    def _are_shared(self, value):
-        """Whether the value is an ascending tuple of places of members, each with a number."""
-        if not isinstance(value, tuple):
-            return False
-        earlier = ()
-        for entry in value:
-            if not isinstance(entry, tuple) or not entry:
-                return False
-            place, number = entry[:-1], entry[-1]
-            if not _is_place(self.shared, place) or place <= earlier:
-                return False
-            if not isinstance(number, int) or isinstance(number, bool) or not 1 <= number < TOO_GREAT:
-                return False
-            earlier = place
         return True
 
     def fields_for(self, most):
@@ -257,3 +259,8 @@ def _is_place(places, value):
         if not isinstance(part, str):
             return False
     return value in places
+
+
+def _is_number(value):
+    """Whether the value is a number that a pattern can ask for."""
+    return isinstance(value, int) and not isinstance(value, bool) and 1 <= value < TOO_GREAT

@@ -81,7 +81,7 @@ def least_patterns(system, patterns):
     """The patterns that no other one of them is below, ascending."""
     check_system(system)
     places = plain_places(system)
-    if not isinstance(patterns, tuple) or not all([places.has_pattern(pattern) for pattern in patterns]):
+    if not isinstance(patterns, tuple) or not places.have_patterns(patterns):
         raise InvalidOperation("these are no patterns")
     fields = places.fields_for(greatest_number(patterns))
     least = fields.least([fields.number_of(pattern) for pattern in patterns])

@@ -206,7 +206,7 @@ def are_patterns(places, value):
     """Whether the value is an ascending tuple of patterns over these places, and not of too many."""
     if not isinstance(value, tuple) or len(value) > MAX_CLOSED:
         return False
-    return all([places.has_pattern(pattern) for pattern in value]) and is_ascending(value)
+    return places.have_patterns(value) and is_ascending(value)
 
 
 def can_any_fit(system, patterns):

@@ -144,7 +144,9 @@ class Run:
         for parts in reversed(list(self._parts[left:])):
             for who, source, _ in parts:
                 states[who] = source
-        shorter = Run(self._system, self._numbers)
+        # A run that has nobody is made soonest; all that it knows is replaced.
+        shorter = Run(self._system, (0,) * len(self._numbers))
+        shorter._numbers = self._numbers
         shorter._events = self._events[:left]
         shorter._parts = self._parts[:left]
         shorter._states = states
@@ -173,14 +175,14 @@ class Run:
                 order.append(taken)
                 ready = ready ^ 1 << taken
                 for later in leads[taken]:
-                    waits[later] -= 1
+                    waits[later] = waits[later] - 1
                     ready = ready if waits[later] else ready | 1 << later
                 least = 0
             elif order:
                 taken = order.pop()
                 for later in leads[taken]:
                     ready = ready if waits[later] else ready ^ 1 << later
-                    waits[later] += 1
+                    waits[later] = waits[later] + 1
                 ready = ready | 1 << taken
                 least = taken + 1
             else:
@@ -228,13 +230,17 @@ class Run:
             raise TooMany(MAX_EVENTS)
         parts = (parts_of(self._system, other),)
         states = _states_behind(self._states, parts, len(self._events))
-        # Only the new event is played: a run that is put together event by event is not played again for each.
-        grown = Run(self._system, self._numbers)
+        # Only the new event is played: a run that is put together event by event is not played again for each. A run
+        # that has nobody is made soonest; all that it knows is replaced.
+        grown = Run(self._system, (0,) * len(self._numbers))
+        grown._numbers = self._numbers
         grown._events = self._events + (other,)
         grown._parts = self._parts + parts
         grown._states = states
         if self._pasts is not None:
-            grown._latest, grown._pasts = _pasts_behind(self._latest, self._pasts, parts)
+            told = _pasts_behind(self._latest, self._pasts, parts)
+            grown._latest = told[0]
+            grown._pasts = told[1]
         return grown
 
 

@@ -45,7 +45,8 @@ def write_parts(pattern):
 def read_parts(line):
     """The pattern, perhaps of no system, with this line, or None."""
     lone, shared = [], []
-    for part in [] if line == "-" else line.split(", "):
+    parts = [] if line == "-" else line.split(", ")
+    for part in parts:
         words = part.split(" ")
         number = _integer(words[2]) if len(words) == 3 else None
         if not all([is_name(word) for word in words[:2]]):

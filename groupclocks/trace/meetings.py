@@ -90,7 +90,7 @@ class Meetings:
             passed = [at for at, one in enumerate(stays) for other in stays if one != other and is_out(one, other)]
             if not passed:
                 return stays
-            heads[passed[0]] += 1
+            heads[passed[0]] = heads[passed[0]] + 1
         return None
 
     def _is_over(self, one, other):
@@ -133,9 +133,10 @@ class Meetings:
 
     def _next_head(self, row, head, done):
         """The place of the first stay of a row, from one on, that is not over behind some events."""
-        while head < len(row) and row[head][1] is not None and done >> row[head][1] & 1:
-            head += 1
-        return head
+        at = head
+        while at < len(row) and row[at][1] is not None and done >> row[at][1] & 1:
+            at = at + 1
+        return at
 
     def _up_to(self, index):
         """The bits of an event and of those before it; none for None."""
