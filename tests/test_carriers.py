@@ -74,6 +74,8 @@ class ExampleTest(unittest.TestCase):
         for other in (Carriers(Order(MAIL), ("send",), ()), Carriers(Order(MAIL), ("get",), ("send",)), LETTERS.group, str(LETTERS),
                       Carriers(Order(MAIL.with_action(type(MAIL["get"])("other", MAIL["get"].moves))), ("send",), ("get",))) + VALUES:
             check_equality(self, LETTERS, other, False)
+        check_equality(self, Carriers(Order(LOCK), ("give",), ("work",)), Carriers(Order(LOCK), ("take",), ("work",)), False)
+        check_equality(self, Carriers(Order(LOCK), ("give",), ("work",)), Carriers(Order(LOCK), ("give",), ("take",)), False)
 
     def test_nobody_is_asked(self):
         carriers = Carriers(Order(MAIL), ("send",), ())
@@ -185,6 +187,11 @@ class TruthTest(unittest.TestCase):
         many = tuple(("send", (number,)) for number in range(1000)) + tuple(("get", (number,)) for number in range(999, -1, -1))
         self.assertTrue(LETTERS.is_certificate((), ("run", (1000,), many)))
         self.assertFalse(LETTERS.is_certificate((), ("run", (1001,), (("send", (1000,)),) + many)))
+
+    def test_the_last_event_is_of_no_asked_action(self):
+        nobody = Carriers(Order(MAIL), ("send",), ())
+        self.assertTrue(judge.is_wrong_at_end(MAIL, ("send",), ("get",), (), (2,), POST))
+        self.assertFalse(nobody.is_certificate((), ("run", (2,), POST)))
 
     def test_parts_of_2000_patterns(self):
         # No member of x ever comes to t; the events of b hand on what those of a do.

@@ -47,7 +47,7 @@ NO_CLAIMS = (
     ("enough", ("take",), ()), ("enough", (), (), ()), ("enough", ("take",), ("take",), ()), ("enough", ("take",), (), ("take",)), ("enough", ["take"], (), ()), ("enough", ("take",), None, ()),
     ("enough", ("take",), (), None), ("enough", ("work", "take"), (), ()), ("enough", ("take",), ("fly",), ()), ("enough", ("take",), ("work", "give"), ()), ("enough", ("take",), (), (), ()),
     ("always", (), "take"), ("always", ("take",)), ("always", ("take",), "fly"), ("always", ("take",), ("take",)), ("always", "take", "take"), ("never", ("work", "take"), "take"),
-    ("never", ["take"], "take"), ("never", ("take",), None), ("idle", "take"), (("ordered",), "work", "work"), (None, "work", "work"), (WORK,), (True,),
+    ("never", ["take"], "take"), ("never", ("take",), None), ("idle", "take"), ("Enough", ("take",), (), ()), ("held", ("take",), (), ()), (("ordered",), "work", "work"), (None, "work", "work"), (WORK,), (True,),
 )
 
 
@@ -163,6 +163,11 @@ class ClaimTest(unittest.TestCase):
         for claim in (("enough", many, ("xb",), ("xb",)), ("enough", many, (), ())):
             check_error(self, TooMany, {"limit": 400}, fits_in, system, claim)
             check_error(self, TooMany, {"limit": 400}, holds_in, system, claim)
+        # Six members in six states are too many for the order of six actions.
+        steps = [f"action {begin}{end} x {begin} {end}" for begin, end in ("ab", "bc", "cd", "de", "ef")]
+        crowd = System.from_lines("pool x a b c d e f", *steps, "action z x f f, x f f, x f f")
+        check_error(self, TooMany, {"limit": 400}, fits_in, crowd, ("enough", ("z",), (), ()))
+        self.assertIs(fits_in(crowd, ("enough", (), (), ())), False)
         for claim in (("enough", many[:9], (), ()), ("enough", many, ("fly",), ()), ("enough", many, (many[0],), ()), ("enough", many, (), (many[0],)), ("enough", many, (), ["xb"])):
             self.assertIs(fits_in(system, claim), False)
         target = ((("p", "w"), ("q", "w"), ("r", "w")), (("x", "c", 40),))
@@ -285,6 +290,7 @@ class ProjectTest(unittest.TestCase):
     def test_equality(self):
         project = Project(LOCK)
         check_equality(self, project, Project(System.from_lines(*reversed(LOCK.lines))), True)
+        check_equality(self, project, Project(SERVE), False)
         project.pin(WORK)
         project.put(LOCK["work"])
         other = Project(LOCK)

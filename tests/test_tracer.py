@@ -143,7 +143,7 @@ class StaysTest(unittest.TestCase):
     def test_no_participant(self):
         tracer = serving()
         for value in NO_TUPLES + TUPLES + (("client", 2), ("client", -1), ("client", True), ("server", 1), ("server", False), ("server", None), ("fly", 0),
-                                           ("ask", 0), (0, "client"), ["client", 0], ("client", (0,)), ("client", 10 ** 60), ("client", 0, 0), (("client", 0),)):
+                                           ("ask", 0), (0, "client"), ["client", 0], ("client", (0,)), ("client", 10 ** 60), ("client", 0, 0), (("client", 0),), (["client"], 0), ({}, 0), (SERVE, 0), (("client",), 0)):
             check_error(self, InvalidOperation, {}, tracer.stays, value)
 
 

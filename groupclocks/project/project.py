@@ -17,7 +17,7 @@ MAX_CLAIMS = 20
 def fits_in(system, value):
     """Whether the value is a claim whose parts are as the stages ask, with names of the system."""
     check_system(system)
-    if not isinstance(value, tuple) or not value or not isinstance(value[0], str):
+    if not isinstance(value, tuple) or not value:
         return False
     word, parts = value[0], value[1:]
     if word == "ordered":

@@ -182,8 +182,8 @@ def _answer(project, line):
     if line in BARE_COMMANDS:
         bare = BARE_COMMANDS[line]
         return bare(project)
-    word, blank, rest = line.partition(" ")
-    if not blank or word not in COMMANDS:
+    word, _, rest = line.partition(" ")
+    if word not in COMMANDS:
         return WHAT
     command = COMMANDS[word]
     return command(project, rest)

@@ -122,8 +122,8 @@ def _read_run(lines, start):
     """The numbers and the events in the lines from one on."""
     if start == len(lines):
         raise ParseError(start)
-    word, blank, rest = lines[start].partition(" ")
-    numbers = read_numbers(rest) if word == "numbers" and blank else None
+    word, _, rest = lines[start].partition(" ")
+    numbers = read_numbers(rest) if word == "numbers" else None
     if numbers is None:
         raise ParseError(start)
     return numbers, tuple(_read_each(lines, start + 1, read_event))

@@ -67,13 +67,19 @@ class Meetings:
         return (*first, *self._indices(self._everything() & ~done)), len(first)
 
     def parting(self):
-        """An order in which all are never together, or None."""
+        """An order in which all are never together, or None.
+
+        If one of the next stays can be over when another one begins, it is ended next. Until then somebody is not in
+        the wished state: the other participant, or, if that one has begun already with the end of an earlier stay of a
+        third one, this third one, who begins still later; and so on.
+        """
         done, order, heads = 0, [], [0] * len(self._rows)
         while self._are_there(heads):
-            ended = self._to_be_ended(self._stays_at(heads), done)
-            if ended is None:
+            stays = self._stays_at(heads)
+            ends = [one[1] for one in stays for other in stays if self._can_be_over(one, other)]
+            if not ends:
                 return None
-            fresh = self._up_to(ended) & ~done
+            fresh = self._up_to(ends[0]) & ~done
             order.extend(self._indices(fresh))
             done = done | fresh
             heads = [self._next_head(row, head, done) for row, head in zip(self._rows, heads)]
@@ -87,7 +93,7 @@ class Meetings:
         heads = [0] * len(self._rows)
         while self._are_there(heads):
             stays = self._stays_at(heads)
-            passed = [at for at, one in enumerate(stays) for other in stays if one != other and is_out(one, other)]
+            passed = [at for at, one in enumerate(stays) for other in stays if is_out(one, other)]
             if not passed:
                 return stays
             heads[passed[0]] = heads[passed[0]] + 1
@@ -95,33 +101,11 @@ class Meetings:
 
     def _is_over(self, one, other):
         """Whether in each order the one stay is over when the other one begins."""
-        return one[1] is not None and other[0] is not None and self._up_to(other[0]) >> one[1] & 1 == 1
+        return one[1] is not None and self._up_to(other[0]) >> one[1] & 1 == 1
 
     def _can_be_over(self, one, other):
         """Whether in some order the one stay is over when the other one begins."""
         return one[1] is not None and other[0] is not None and self._pasts[one[1]] >> other[0] & 1 == 0
-
-    def _to_be_ended(self, stays, done):
-        """The event that ends the one of these stays that is best ended next, while another one has not begun; or None.
-
-        The other one, and with it a third one, may begin before the end then only if it cannot wait for anybody else.
-        """
-        found = None
-        for one in stays:
-            for other in [other for other in stays if other != one and self._can_be_over(one, other)]:
-                if not done >> other[0] & 1:
-                    if self._is_harmless(one, stays, done):
-                        return one[1]
-                    found = one[1] if found is None else found
-        return found
-
-    def _is_harmless(self, ended, stays, done):
-        """Whether the end of a stay makes none begin that can wait for the end of another one."""
-        forced = self._up_to(ended[1]) & ~done
-        for begun in [stay for stay in stays if stay != ended and stay[0] is not None and forced >> stay[0] & 1]:
-            if any([stay not in (begun, ended) and self._can_be_over(stay, begun) for stay in stays]):
-                return False
-        return True
 
     def _are_there(self, heads):
         """Whether there is a stay in each row at these places."""
