@@ -162,11 +162,8 @@ def is_closed(system, target, value):
 def is_certificate(system, target, value):
     """Whether the value is a certificate for the target."""
     _check_target(system, target)
-    if not isinstance(value, tuple) or len(value) not in (2, 3):
-        return False
-    if len(value) == 2:
-        return is_closed_form(system, system.names, target, value)
-    return is_run_form(system, system.names, target, value)
+    names = system.names
+    return is_closed_form(system, names, target, value) or is_run_form(system, names, target, value)
 
 
 def is_closed_form(system, names, target, value):
