@@ -395,3 +395,15 @@ def watched_rounds(watch, targets, most=1000):
             return rounds
         rounds.append(following)
     return None
+
+
+def linked_system(seed):
+    """Some system whose actions mostly share agents two by two; the same one for the same number."""
+    source = random.Random(seed)
+    lone = {name: tuple("rst"[:source.choice([1, 1, 2, 3])]) for name in "pqm"[:source.randint(2, 3)]}
+    shared = {name: tuple("rs"[:source.randint(1, 2)]) for name in "x"[:source.randint(0, 1)]}
+    known, made = {**lone, **shared}, []
+    for letter in "abcd"[:source.randint(2, 4)]:
+        owners = source.sample(sorted(known), min(len(known), source.choice([1, 2, 2, 2])))
+        made.append(Action(letter, tuple((name, source.choice(known[name]), source.choice(known[name])) for name in owners)))
+    return System(lone, shared, tuple(made))
