@@ -6,7 +6,7 @@ from groupclocks.base.words import is_integer
 from groupclocks.clocks.carriers import MAX_QUESTION, Carriers
 from groupclocks.cover.patterns import is_target
 from groupclocks.cover.reach import Reach
-from groupclocks.errors import InvalidNumber, InvalidOperation, NothingToUndo, Refused, TooMany, UnknownName
+from groupclocks.errors import InvalidNumber, InvalidOperation, NothingToUndo, Refused, TooMany
 from groupclocks.order.groups import is_group
 from groupclocks.order.pairs import Order, is_ordered
 from groupclocks.past.always import is_always, is_never
@@ -39,9 +39,9 @@ def holds_in(system, value):
     if word == "ordered":
         return is_ordered(system, *parts)
     if word == "group":
-        return is_group(_order_of(system), *parts)
+        return is_group(_order_of(system), parts[0])
     if word == "barred":
-        return not Reach(system, *parts).is_reachable
+        return not Reach(system, parts[0]).is_reachable
     if word == "always":
         return is_always(system, *parts)
     if word == "never":

@@ -64,7 +64,7 @@ def write_words(claim):
     """The line of a claim."""
     word, parts = claim[0], claim[1:]
     if word == "barred":
-        return f"{word} {write_parts(*parts)}"
+        return f"{word} {write_parts(parts[0])}"
     if word == "ordered":
         return " ".join(claim)
     return f"{word} " + ", ".join([part if isinstance(part, str) else write_names(part) for part in parts])
