@@ -72,10 +72,8 @@ def write_words(claim):
 
 def read_words(line):
     """The claim, perhaps of no system, with this line, or None."""
-    word, blank, rest = line.partition(" ")
+    word, _, rest = line.partition(" ")
     parts = None
-    if not blank:
-        return None
     if word == "ordered":
         parts = read_pair(rest)
     elif word == "group":
