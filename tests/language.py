@@ -53,6 +53,16 @@ def package_files(folder):
     return found
 
 
+def package_texts(folder):
+    """The dict from the names of the modules below a package's folder to their texts."""
+    found = {}
+    for path in package_files(folder):
+        words = os.path.relpath(path, os.path.dirname(folder))[:-3].split(os.sep)
+        with open(path, encoding="utf-8") as file:
+            found[".".join(word for word in words if word != "__init__")] = file.read()
+    return found
+
+
 def check_places(folder):
     """Complaints about the files of a package as such: L1 and L14."""
     found, paths = [], package_files(folder)
@@ -305,103 +315,3 @@ def check_names(texts):
     found += [f"L18 {name} is an attribute and a method or property" for name in attributes & (properties | methods)]
     found += [f"L23 {name} is a generator and something else" for name in generators if functions.count(name) > 1]
     return sorted(found)
-
-
-# What must change nothing but what it made itself, and with it all that it calls.
-STEADY = set(
-    "eq repr str len lt le gt ge ne add sub mul floordiv mod pow and or xor lshift rshift radd rsub rmul rfloordiv rmod rand"
-    " ror rxor rlshift rrshift neg pos invert abs bool contains getitem".split()
-)
-CHANGING = set("append clear extend insert pop remove reverse setdefault update add discard sort".split())
-MADE = set("list dict set sorted".split())
-
-
-def check_steady(texts):
-    """L5: operators, properties and the like, and what they call by name, change nothing but what they made."""
-    functions, made = {}, {}
-    for text in texts:
-        tree = ast.parse(text)
-        for part in ast.walk(tree):
-            if isinstance(part, ast.FunctionDef):
-                functions.setdefault(part.name, []).append(part)
-            if isinstance(part, ast.ClassDef):
-                made[part.name] = [inner for inner in part.body if isinstance(inner, ast.FunctionDef) and inner.name == "__init__"]
-    waiting = [part for parts in functions.values() for part in parts if is_steady(part)]
-    reached, found = [], []
-    while waiting:
-        part = waiting.pop()
-        if part in reached:
-            continue
-        reached.append(part)
-        found += [f"L5 {part.name}: {complaint}" for complaint in changes_of(part)]
-        for name in [name for name in called_names(part) if name != "__init__"]:
-            # A method with the name of one of a builtin value is none of the package's own.
-            waiting += made.get(name, []) if name in made else functions.get(name, []) if name not in METHODS else []
-    return sorted(set(found))
-
-
-def is_steady(part):
-    """Whether this is an operator's method, a property or the like."""
-    is_property = any(ast.unparse(one) == "property" for one in part.decorator_list)
-    return is_property or (part.name.startswith("__") and part.name.strip("_") in STEADY)
-
-
-def called_names(part):
-    """The names of the functions and methods that a function calls."""
-    calls = [inner.func for inner in ast.walk(part) if isinstance(inner, ast.Call)]
-    return [one.id for one in calls if isinstance(one, ast.Name)] + [one.attr for one in calls if isinstance(one, ast.Attribute)]
-
-
-def own_values(part):
-    """The local names that a function assigns nothing but new lists, dicts, sets or objects of the package."""
-    values = {}
-    for inner in ast.walk(part):
-        if isinstance(inner, ast.Assign) and len(inner.targets) == 1 and isinstance(inner.targets[0], ast.Name):
-            values.setdefault(inner.targets[0].id, []).append(inner.value)
-        elif isinstance(inner, (ast.Assign, ast.For)):
-            targets = inner.targets if isinstance(inner, ast.Assign) else [inner.target]
-            for one in [one for target in targets for one in ast.walk(target)]:
-                if isinstance(one, ast.Name) and isinstance(one.ctx, ast.Store):
-                    values.setdefault(one.id, []).append(None)
-    parameters = [one.arg for one in part.args.args]
-    return {name for name, given in values.items() if name not in parameters and all(is_made(value) for value in given)}
-
-
-def is_made(value):
-    """Whether this expression makes a new list, dict, set or object."""
-    if isinstance(value, ast.Call) and isinstance(value.func, ast.Name):
-        return value.func.id in MADE or value.func.id[0].isupper()
-    return isinstance(value, (ast.List, ast.Dict, ast.Set, ast.ListComp, ast.DictComp, ast.SetComp))
-
-
-def changes_of(part):
-    """What a function changes that it did not make."""
-    own, found = own_values(part), []
-    own = own | {part.args.args[0].arg} if part.name == "__init__" else own
-    kept = kept_answer(part)
-    for inner in ast.walk(part):
-        targets = inner.targets if isinstance(inner, ast.Assign) else [inner.target] if isinstance(inner, ast.AugAssign) else []
-        for target in [one for target in targets for one in ast.walk(target)]:
-            if isinstance(target, (ast.Attribute, ast.Subscript)) and isinstance(target.ctx, ast.Store):
-                if ast.unparse(target) != kept and not (isinstance(target.value, ast.Name) and target.value.id in own):
-                    found.append(f"changes {ast.unparse(target)}")
-        # Some classes have in-place operators, which a sign in place might call.
-        if isinstance(inner, ast.AugAssign):
-            found.append(f"changes {ast.unparse(inner.target)} in place")
-        if isinstance(inner, ast.Call) and isinstance(inner.func, ast.Attribute) and inner.func.attr in CHANGING:
-            root = inner.func.value
-            while isinstance(root, (ast.Call, ast.Attribute, ast.Subscript)):
-                root = root.func if isinstance(root, ast.Call) else root.value
-            if not isinstance(root, ast.Name) or root.id not in own:
-                found.append(f"calls {ast.unparse(inner.func)}")
-    return found
-
-
-def kept_answer(part):
-    """The attribute that a property keeps its answer in, if it does so in the one form that is allowed."""
-    rows = [row for row in part.body if not (isinstance(row, ast.Expr) and isinstance(row.value, ast.Constant))]
-    if len(rows) != 2 or not isinstance(rows[0], ast.If) or len(rows[0].body) != 1 or not isinstance(rows[1], ast.Return):
-        return None
-    told = ast.unparse(rows[1].value)
-    is_form = ast.unparse(rows[0].test) == f"{told} is None" and ast.unparse(rows[0].body[0]).startswith(f"{told} = ")
-    return told if is_form else None

@@ -31,11 +31,7 @@ BROKEN = (
 
 class LanguageTest(unittest.TestCase):
     def setUp(self):
-        self.texts = {}
-        for path in language.package_files(FOLDER):
-            words = os.path.relpath(path, os.path.dirname(FOLDER))[:-3].split(os.sep)
-            with open(path, encoding="utf-8") as file:
-                self.texts[".".join(word for word in words if word != "__init__")] = file.read()
+        self.texts = language.package_texts(FOLDER)
 
     def test_files(self):
         self.assertEqual(language.check_places(FOLDER), [])
@@ -57,37 +53,6 @@ class LanguageTest(unittest.TestCase):
             "class C:\n    def __init__(self):\n        self.a = 1\n", "def g():\n    yield 1\n", "class D:\n    def g(self):\n        return 1\n",
         )
         self.assertEqual(len(language.check_names(texts)), 3)
-
-    def test_what_changes_nothing(self):
-        self.assertEqual(language.check_steady(self.texts.values()), [])
-
-    def test_the_check_finds_what_changes_something(self):
-        text = """
-class A:
-    def __init__(self):
-        self.a = []
-    @property
-    def b(self):
-        self.a.append(1)
-        return helper(self.a)
-    def __eq__(self, other):
-        rows = self.a
-        rows[0] = 1
-        return True
-    def __len__(self):
-        rows = []
-        rows.append(1)
-        return len(rows)
-    def free(self):
-        self.a.append(2)
-def helper(xs):
-    xs[0] = 1
-    x = []
-    x.append(2)
-    return xs
-"""
-        found = language.check_steady([text])
-        self.assertEqual(found, ["L5 __eq__: changes rows[0]", "L5 b: calls self.a.append", "L5 helper: changes xs[0]"])
 
     def test_the_check_finds_what_is_broken(self):
         for rule, text in BROKEN:

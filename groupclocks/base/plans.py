@@ -6,18 +6,14 @@ class Plan:
 
     def __init__(self, moves, pools):
         """`pools` are the names of the pools of the system, in order."""
-        # Each move with the index of its member among the members of an event; None for a move of an agent.
-        self._moves = []
         self.shared = tuple([move for move in moves if move[0] in pools])
-        taken = 0
-        for owner, source, goal in moves:
-            is_shared = owner in pools
-            self._moves.append((owner, source, goal, taken if is_shared else None))
-            taken = taken + 1 if is_shared else taken
+        indices = [at for at, move in enumerate(moves) if move[0] in pools]
+        # Each move with the index of its member among the members of an event; None for a move of an agent.
+        self._moves = [(*move, indices.index(at) if at in indices else None) for at, move in enumerate(moves)]
         # For each member, the place of its pool among the pools.
         self.places = [pools.index(move[0]) for move in self.shared]
         # Pairs of indices of members that are different, and of those that ascend besides.
-        pairs = [(one, other) for other in range(taken) for one in range(other)]
+        pairs = [(one, other) for other in range(len(self.shared)) for one in range(other)]
         self._apart = [(one, other) for one, other in pairs if self.shared[one][0] == self.shared[other][0]]
         self._ascending = [(one, other) for one, other in pairs if self.shared[one] == self.shared[other]]
 
